@@ -1,0 +1,1 @@
+"""Claims about machine words, decided at every width at once."""

@@ -1,0 +1,131 @@
+"""Going through stands, and making tables least; what is handed is known to be right."""
+
+from howeverwide.errors import TooMany
+
+
+def explored(first, behind, most):
+    """Return the list of all keys that are reached from the first one, and the list of their steps.
+
+    behind(key) returns the list of the keys behind a key, one for each letter. The keys are
+    numbered in the order of the first rows that reach them, shorter rows first; the steps
+    have these numbers. No more keys than most are allowed, with None any number.
+    """
+    keys = [first]
+    numbers = {first: 0}
+    steps = []
+    while len(steps) < len(keys):
+        key = keys[len(steps)]
+        step = []
+        for found in behind(key):
+            if found not in numbers:
+                if len(keys) == most:
+                    raise TooMany(most + 1)
+                numbers[found] = len(keys)
+                keys.append(found)
+            step.append(numbers[found])
+        steps.append(step)
+    return keys, steps
+
+
+def stands_before(steps):
+    """Return a list for each letter, but one alone for letters that always lead alike.
+
+    It has the list of the stands from which the letter leads to a stand, for each stand.
+    """
+    befores = []
+    columns = {}
+    for column in zip(*steps):
+        if column not in columns:
+            columns[column] = True
+            before = [[] for _ in steps]
+            for stand, behind in enumerate(column):
+                before[behind].append(stand)
+            befores.append(before)
+    return befores
+
+
+def lot_numbers(steps, ends):
+    """Return for each stand the number of its lot of alike stands.
+
+    Lots are split as long as some letter leads from one stand of a lot into a waiting lot and
+    from another one not; of the two halves of a lot that waits no more, the lesser one is
+    enough to wait again. So no stand waits often, and long chains of stands are done quickly.
+    """
+    lots = [[stand for stand, end in enumerate(ends) if end], [stand for stand, end in enumerate(ends) if not end]]
+    numbers = [0 if end else 1 for end in ends]
+    befores = stands_before(steps)
+    waiting = [0, 1]
+    waits = [True, True]
+    while len(waiting) > 0:
+        number = waiting.pop()
+        waits[number] = False
+        splitter = list(lots[number])
+        for before in befores:
+            parts = parts_ahead(splitter, before, numbers)
+            for lot, part in parts.items():
+                if len(part) < len(lots[lot]):
+                    waits.append(False)
+                    chosen = split_off(lot, part, lots, numbers, waits)
+                    waiting.append(chosen)
+                    waits[chosen] = True
+    return numbers
+
+
+def parts_ahead(splitter, before, numbers):
+    """Return for each lot the list of its stands that lead into the splitter, where there are some."""
+    parts = {}
+    for stand in splitter:
+        for earlier in before[stand]:
+            parts.setdefault(numbers[earlier], []).append(earlier)
+    return parts
+
+
+def split_off(lot, part, lots, numbers, waits):
+    """Make a new lot of some stands of a lot; return which one of both is to wait."""
+    new = len(lots)
+    for stand in part:
+        numbers[stand] = new
+    lots[lot] = [stand for stand in lots[lot] if numbers[stand] == lot]
+    lots.append(part)
+    if not waits[lot] and len(lots[lot]) < len(part):
+        return lot
+    return new
+
+
+def merged(many, steps, ends):
+    """Return the least table of one all stands of which are reached, and numbered as they are first."""
+    lots = lot_numbers(steps, ends)
+    numbers = {}
+    firsts = []
+    for stand, lot in enumerate(lots):
+        if lot not in numbers:
+            numbers[lot] = len(firsts)
+            firsts.append(stand)
+    merged_steps = [[numbers[lots[behind]] for behind in steps[first]] for first in firsts]
+    return (many, merged_steps, [ends[first] for first in firsts])
+
+
+def least_table(table):
+    """Return the least table of a table."""
+    many, steps, ends = table
+
+    def behind(stand):
+        return steps[stand]
+
+    stands, renumbered = explored(0, behind, len(steps))
+    return merged(many, renumbered, [ends[stand] for stand in stands])
+
+
+def first_rows(table):
+    """Return the list of the tuples of all reached stands and their first rows, as these stand in order."""
+    rows = [(0, [])]
+    met = {0: True}
+    at = 0
+    while at < len(rows):
+        stand, row = rows[at]
+        for letter, behind in enumerate(table[1][stand]):
+            if behind not in met:
+                met[behind] = True
+                rows.append((behind, row + [letter]))
+        at += 1
+    return rows

@@ -1,0 +1,214 @@
+"""Promises 1 to 5 for all functions: arguments, errors and their order, what is new and what stays."""
+
+import inspect
+import random
+import unittest
+
+from howeverwide import atoms, errors, joins, meaning, puts, tables, texts, words
+from tests.support import POOL, have_new_lists, kept, nested, raised_by
+
+EVEN = (1, [[0, 1], [1, 0]], [True, False])
+LESS = (2, [[0, 0, 1, 0], [1, 0, 1, 1]], [False, True])
+TOLD = ("told", LESS, ["y", "x"])
+CLAIM = ("and", ("then", TOLD, TOLD), ("some", "x", ("all", "y", TOLD)), ("iff", TOLD, ("below", "x", "y")))
+SUM = ("sum", [(1, "x"), (-2, "y")], 3)
+PLAIN = ("and", ("then", TOLD, TOLD), ("iff", TOLD, ("below", "x", "y")))
+FILLING = [("x", 1), ("y", 2)]
+ANY = (None, None)
+
+WIDTH = ("width", "InvalidWidth")
+WIDE = ("wide", "InvalidWidth")
+EXPRESSION = ("expression", "InvalidExpression")
+A_CLAIM = ("claim", "InvalidClaim")
+AN_ATOM = ("atom", "InvalidClaim")
+A_SUM = ("sum", "InvalidClaim")
+TABLE = ("table", "InvalidTable")
+FILLED = ("filling x y", "InvalidFilling")
+
+# Each function with, for each parameter in order, its name, a right value, and of which kind
+# it must be by which error.
+CALLS = [
+    (words.is_name, [("value", "x", ANY)]),
+    (words.is_word, [("width", 3, WIDTH), ("value", 5, ANY)]),
+    (words.is_expression, [("value", "x", ANY)]),
+    (words.is_claim, [("value", CLAIM, ANY)]),
+    (words.is_filling, [("width", 3, WIDTH), ("names", ["x", "y"], ("names", "InvalidNames")), ("value", FILLING, ANY)]),
+    (words.names_of_expression, [("expression", ("plus", "y", "x"), EXPRESSION)]),
+    (words.free_names, [("claim", CLAIM, A_CLAIM)]),
+    (words.how_many_knots, [("claim", CLAIM, A_CLAIM)]),
+    (words.bits_of, [("width", 3, WIDTH), ("word", 6, ("word", "InvalidWord"))]),
+    (words.word_of_bits, [("bits", [1, 0, 1], ("bits", "InvalidNumber"))]),
+    (words.swept, [("claim", CLAIM, A_CLAIM)]),
+    (texts.text_of_expression, [("expression", ("plus", "y", "x"), EXPRESSION)]),
+    (texts.expression_of_text, [("text", "(x + 1)", ("expression text", "InvalidText"))]),
+    (texts.text_of_claim, [("claim", CLAIM, A_CLAIM)]),
+    (texts.claim_of_text, [("text", "[told 1:0,0:1 x] iff [told 1:0,0:1 x]", ("claim text", "InvalidText"))]),
+    (meaning.value, [("width", 3, WIDTH), ("expression", ("plus", "y", "x"), EXPRESSION), ("filling", FILLING, FILLED)]),
+    (meaning.holds, [("width", 3, WIDTH), ("claim", PLAIN, A_CLAIM), ("filling", FILLING, FILLED)]),
+    (puts.put_in, [("claim", CLAIM, A_CLAIM), ("name", "x", ("name", "InvalidName")), ("expression", "y", EXPRESSION)]),
+    (puts.renamed, [("claim", ("and", ("top", "x"), ("told", EVEN, ["x"])), A_CLAIM),
+                    ("pairs", [("x", "y")], ("pairs", "InvalidNames"))]),
+    (puts.plain_bound, [("claim", CLAIM, A_CLAIM)]),
+    (puts.are_renamings, [("one", CLAIM, A_CLAIM), ("other", CLAIM, A_CLAIM)]),
+    (tables.is_table, [("value", EVEN, ANY)]),
+    (tables.stand_behind, [("table", EVEN, TABLE), ("row", [1, 0, 1], ("row", "InvalidNumber"))]),
+    (tables.takes, [("table", EVEN, TABLE), ("row", [1, 0, 1], ("row", "InvalidNumber"))]),
+    (tables.row_of, [("width", 3, WIDTH), ("words", [4], ("words", "InvalidWord"))]),
+    (tables.words_of, [("many", 1, ("many", "InvalidNumber")), ("row", [1, 0, 1], ("row", "InvalidNumber"))]),
+    (tables.reached, [("table", LESS, TABLE)]),
+    (tables.first_taken, [("table", LESS, TABLE)]),
+    (tables.alike_stands, [("table", LESS, TABLE)]),
+    (tables.least, [("table", LESS, TABLE)]),
+    (tables.is_least, [("table", LESS, TABLE)]),
+    (tables.parting_row, [("one", EVEN, TABLE), ("other", (1, [[0, 0]], [True]), TABLE)]),
+    (tables.rows_to, [("table", (1, [[0, 1], [1, 1]], [True, False]), TABLE), ("width", 3, WIDE)]),
+    (tables.list_table, [("many", 1, ("many", "InvalidNumber")), ("rows", [[], [1], [1, 0]], ("rows", "InvalidNumber"))]),
+    (joins.turned, [("table", EVEN, TABLE)]),
+    (joins.joined, [("way", "and", ("way", "InvalidName")), ("one", EVEN, TABLE), ("other", EVEN, TABLE)]),
+    (joins.some, [("table", LESS, TABLE), ("place", 1, ("place", "InvalidNumber"))]),
+    (joins.every, [("table", LESS, TABLE), ("place", 1, ("place", "InvalidNumber"))]),
+    (joins.placed, [("table", EVEN, TABLE), ("places", [0], ("places", "InvalidNumber")),
+                    ("many", 2, ("many above 0", "InvalidNumber"))]),
+    (atoms.is_atom, [("value", SUM, ANY)]),
+    (atoms.names_in, [("atom", SUM, AN_ATOM)]),
+    (atoms.holds_plainly, [("atom", SUM, AN_ATOM), ("width", 3, WIDTH), ("filling", FILLING, FILLED)]),
+    (atoms.label_of, [("atom", SUM, AN_ATOM), ("width", 3, WIDTH), ("filling", FILLING, FILLED)]),
+    (atoms.first_label, [("atom", SUM, AN_ATOM)]),
+    (atoms.label_behind, [("atom", SUM, AN_ATOM), ("names", ["x", "y"], ("names x y", "InvalidNames")),
+                          ("label", ("carry", 1), ANY), ("letter", 3, ("letter", "InvalidNumber"))]),
+    (atoms.is_good, [("atom", SUM, AN_ATOM), ("label", ("carry", 1), ANY)]),
+    (atoms.atom_table, [("atom", SUM, AN_ATOM), ("names", ["x", "y"], ("names x y", "InvalidNames"))]),
+    (atoms.most_stands, [("atom", SUM, AN_ATOM)]),
+    (atoms.carries_met, [("atom", SUM, A_SUM)]),
+    (atoms.carry_bounds, [("atom", SUM, A_SUM), ("width", 3, WIDE)]),
+]
+
+JUDGES = {
+    words.is_name: "name",
+    words.is_expression: "expression",
+    words.is_claim: "claim",
+    tables.is_table: "table",
+    atoms.is_atom: "atom",
+}
+
+
+class ArgumentsTest(unittest.TestCase):
+
+    def test_every_function_of_these_modules_is_called_here(self):
+        tested = {function.__name__ for function, _ in CALLS}
+        self.assertEqual(len(tested), len(CALLS))
+        self.assertEqual(len(CALLS), 11 + 4 + 2 + 4 + 13 + 5 + 11)
+        for function, parameters in CALLS:
+            self.assertEqual(list(inspect.signature(function).parameters), [name for name, _, _ in parameters])
+
+    def test_by_position_and_by_name(self):
+        for function, parameters in CALLS:
+            placed = function(*[right for _, right, _ in parameters])
+            named = function(**{name: right for name, right, _ in reversed(parameters)})
+            self.assertEqual(placed, named, function.__name__)
+            self.assertIs(placed.__class__, named.__class__)
+
+    def test_arguments_stay_and_lists_are_new(self):
+        for function, parameters in CALLS:
+            arguments = [kept(right) for _, right, _ in parameters]
+            first = function(*arguments)
+            again = function(*arguments)
+            self.assertEqual(arguments, [right for _, right, _ in parameters], function.__name__)
+            self.assertEqual(first, again)
+            self.assertTrue(have_new_lists([first, again], arguments), function.__name__)
+
+    def test_each_wrong_argument_is_told_by_its_error(self):
+        for function, parameters in CALLS:
+            arguments = [right for _, right, _ in parameters]
+            for place, (name, _, (kind, error_name)) in enumerate(parameters):
+                if kind is None:
+                    continue
+                for wrong in POOL.wrong(kind):
+                    with self.subTest(function=function.__name__, parameter=name, wrong=repr(wrong)[:80]):
+                        copied = kept(wrong) if not isinstance(wrong, errors.ClaimError) else wrong
+                        error = raised_by(function, *arguments[:place], wrong, *arguments[place + 1:])
+                        self.assertIs(error.__class__, getattr(errors, error_name))
+                        self.assertIs(error.value, wrong)
+                        self.assertEqual(wrong, copied)
+
+    def test_right_arguments_are_not_refused(self):
+        for function, parameters in CALLS:
+            if len(parameters) == 1:
+                _, _, (kind, _) = parameters[0]
+                for value, kinds in POOL.entries:
+                    if kind is None or kind in kinds:
+                        self.assertIsNone(raised_by(function, value), (function.__name__, value))
+
+    def test_of_two_wrong_arguments_the_first_one_is_told(self):
+        chance = random.Random(7)
+        for function, parameters in CALLS:
+            checked = [place for place, (_, _, (kind, _)) in enumerate(parameters) if kind is not None]
+            for first in checked:
+                for last in checked:
+                    if first < last:
+                        self.look_at_two(chance, function, parameters, first, last)
+
+    def look_at_two(self, chance, function, parameters, first, last):
+        for _ in range(40):
+            arguments = [right for _, right, _ in parameters]
+            arguments[first] = chance.choice(POOL.wrong(parameters[first][2][0]))
+            arguments[last] = chance.choice(POOL.wrong(parameters[last][2][0]))
+            error = raised_by(function, *arguments)
+            told = (function.__name__, repr(arguments)[:200])
+            self.assertEqual(error.__class__.__name__, parameters[first][2][1], told)
+            self.assertIs(error.value, arguments[first], told)
+
+    def test_judges_tell_of_any_value(self):
+        for judge, kind in JUDGES.items():
+            for value in POOL.right(kind):
+                self.assertIs(judge(value), True, (judge.__name__, value))
+            for value in POOL.wrong(kind):
+                self.assertIs(judge(value), False, (judge.__name__, value))
+        for value, kinds in POOL.entries:
+            self.assertIs(words.is_word(3, value), "word" in kinds, value)
+            self.assertIs(words.is_filling(3, ["x", "y"], value), "filling x y" in kinds, value)
+
+    def test_judges_check_their_other_arguments_first(self):
+        for value, _ in POOL.entries:
+            self.assertIsInstance(raised_by(words.is_word, 65, value), errors.InvalidWidth)
+            self.assertIsInstance(raised_by(words.is_filling, 65, ["x"], value), errors.InvalidWidth)
+            self.assertIsInstance(raised_by(words.is_filling, 3, ["y", "x"], value), errors.InvalidNames)
+
+    def test_deep_values_are_told(self):
+        for make in (lambda inner: ("not", inner), lambda inner: ("and", inner, inner[0:0]), lambda inner: [inner]):
+            wrong = nested(make, ("top", True), 29)
+            error = raised_by(words.free_names, wrong)
+            self.assertIs(error.__class__, errors.InvalidClaim)
+            self.assertIs(error.value, wrong)
+
+
+class ErrorsTest(unittest.TestCase):
+
+    VALUED = ["InvalidNumber", "InvalidName", "InvalidWidth", "InvalidWord", "InvalidExpression", "InvalidClaim",
+              "InvalidClaims", "InvalidFilling", "InvalidTable", "InvalidNames", "InvalidWidths", "InvalidPaper",
+              "InvalidMachine", "InvalidText", "InvalidDeed", "Unlike", "TooMany"]
+
+    def test_all_stand_directly_under_one(self):
+        self.assertEqual(errors.ClaimError.__bases__, (ValueError,))
+        for name in self.VALUED + ["NothingToUndo", "NothingToRedo"]:
+            self.assertEqual(getattr(errors, name).__bases__, (errors.ClaimError,), name)
+
+    def test_made_with_a_value_by_name_and_with_nothing(self):
+        for name in self.VALUED:
+            made = getattr(errors, name)
+            for value, _ in POOL.entries:
+                self.assertIs(made(value).value, value)
+                self.assertIs(made(value=value).value, value)
+            self.assertIsNone(made().value)
+            self.assertEqual(vars(made()), {"value": None})
+            with self.assertRaises(made):
+                raise made([1])
+
+    def test_some_have_no_field(self):
+        for name in ("ClaimError", "NothingToUndo", "NothingToRedo"):
+            self.assertEqual(vars(getattr(errors, name)()), {})
+            self.assertFalse(hasattr(getattr(errors, name)(), "value"))
+
+
+if __name__ == "__main__":
+    unittest.main()
