@@ -59,6 +59,13 @@ def check_sum(atom):
         raise InvalidClaim(atom)
 
 
+def check_filled(atom, width, filling):
+    """Refuse what is no atom, no width, and no filling of just the names of the atom at the width."""
+    check_atom(atom)
+    check_width(width)
+    check_filling(width, names_of_atom(atom), filling)
+
+
 def check_names_for(atom, names):
     """Refuse what is no list of at most 6 names, in order, each once, with all names of an atom."""
     if not are_names(names) or len(names) > MOST_NAMES:
@@ -85,17 +92,13 @@ def names_of_atom(atom):
 
 def holds_plainly(atom, width, filling):
     """Return whether an atom holds, reckoned on the words of a filling."""
-    check_atom(atom)
-    check_width(width)
-    check_filling(width, names_of_atom(atom), filling)
+    check_filled(atom, width, filling)
     return holds_of_words(atom, width, dict(filling))
 
 
 def label_of(atom, width, filling):
     """Return the label of all bits of the words of a filling."""
-    check_atom(atom)
-    check_width(width)
-    check_filling(width, names_of_atom(atom), filling)
+    check_filled(atom, width, filling)
     return label_of_words(atom, width, dict(filling))
 
 

@@ -38,8 +38,7 @@ def is_word_of(width, value):
 
 def check_width(width):
     """Refuse what is no width of at most 64."""
-    if not is_count_to(width, MOST_WIDTH):
-        raise InvalidWidth(width)
+    check_width_to(width, MOST_WIDTH)
 
 
 def check_width_to(width, most):

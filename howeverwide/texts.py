@@ -21,9 +21,9 @@ def text_of_claim(claim):
 def expression_of_text(text):
     """Return the expression that has a text."""
     check_text(text)
-    expression, end = read_expression(text, 0, 1)
-    # Reading lets by what is written otherwise, as by a nought ahead; writing it again tells.
-    if end != len(text) or not is_expression(expression) or written_expression(expression) != text:
+    expression, _ = read_expression(text, 0, 1)
+    # Reading lets by what is written otherwise, with a nought ahead or more behind; writing it again tells.
+    if not is_expression(expression) or written_expression(expression) != text:
         raise InvalidText(text)
     return expression
 
@@ -31,8 +31,8 @@ def expression_of_text(text):
 def claim_of_text(text):
     """Return the claim that has a text."""
     check_text(text)
-    claim, end = read_claim(text, 0, 1)
-    if end != len(text) or not is_claim(claim) or written_claim(claim) != text:
+    claim, _ = read_claim(text, 0, 1)
+    if not is_claim(claim) or written_claim(claim) != text:
         raise InvalidText(text)
     return claim
 
@@ -45,8 +45,6 @@ def check_text(text):
 
 def written_expression(expression):
     """Return the text of what is known to be an expression."""
-    if isinstance(expression, str):
-        return expression
     if not isinstance(expression, tuple):
         return str(expression)
     word = expression[0]

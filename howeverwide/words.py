@@ -93,7 +93,11 @@ def has_parts(kinds, value):
     """Return whether just parts of these kinds stand behind the first word of a tuple."""
     if kinds is None or len(value) != len(kinds) + 1:
         return False
-    return all([fits(kind, part) for kind, part in zip(kinds, value[1:])])
+    # What stands behind the first misfit is not looked at: parts within parts may be many.
+    for kind, part in zip(kinds, value[1:]):
+        if not fits(kind, part):
+            return False
+    return True
 
 
 def is_expression(value):

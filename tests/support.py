@@ -183,7 +183,7 @@ def make_pool():
     pool.add(nested(lambda inner: [inner], 0, 30))
     pool.add(nested(lambda inner: (inner,), 0, 30))
     pool.add(nested(lambda inner: {"x": inner}, 0, 30))
-    pool.add(nested(lambda inner: ("plus", inner, inner), None, 12))
+    pool.add(nested(lambda inner: ("plus", inner, inner), None, 10))
     pool.add(nested(lambda inner: ("not", inner), "x", 30))
     pool.add(nested(lambda inner: ("turned", inner), None, 30))
     pool.add(nested(lambda inner: ("not", inner), ("top", "x"), 29), "claim")

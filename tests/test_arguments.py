@@ -174,12 +174,18 @@ class ArgumentsTest(unittest.TestCase):
             self.assertIsInstance(raised_by(words.is_filling, 65, ["x"], value), errors.InvalidWidth)
             self.assertIsInstance(raised_by(words.is_filling, 3, ["y", "x"], value), errors.InvalidNames)
 
-    def test_deep_values_are_told(self):
-        for make in (lambda inner: ("not", inner), lambda inner: ("and", inner, inner[0:0]), lambda inner: [inner]):
-            wrong = nested(make, ("top", True), 29)
-            error = raised_by(words.free_names, wrong)
-            self.assertIs(error.__class__, errors.InvalidClaim)
-            self.assertIs(error.value, wrong)
+    def test_deep_values_are_told_quickly(self):
+        makers = (lambda inner: ("not", inner), lambda inner: [inner], lambda inner: (inner, inner),
+                  lambda inner: ("and", inner, inner, inner), lambda inner: ("same", inner, inner),
+                  lambda inner: ("sum", [inner, inner], inner), lambda inner: ("plus", inner, inner))
+        for make in makers:
+            wrong = nested(make, ("top", True), 28)
+            for function, parameters in CALLS:
+                _, *others = [right for _, right, _ in parameters]
+                if parameters[0][2][0] is not None:
+                    error = raised_by(function, wrong, *others)
+                    self.assertEqual(error.__class__.__name__, parameters[0][2][1])
+                    self.assertIs(error.value, wrong)
 
 
 class ErrorsTest(unittest.TestCase):

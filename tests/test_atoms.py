@@ -168,7 +168,8 @@ class LabelsTest(unittest.TestCase):
         ("top", "x"): [("one",), ("nought",)],
         ("told", "even", "x"): [("stand", 0), ("stand", 1)],
     }
-    NO_SHAPES = [(), ("carry",), ("carry", True), ("carry", "x"), ("carry", 1, 2), ["carry", 1], ("wait",), ("wait", [0]),
+    NO_SHAPES = [("carry", ()), ("at", (0,)), ("waits", ()), ("wait", 1), ("stands", 0), (1, 0), ((), ()), (), ("carry",),
+                 ("carry", True), ("carry", "x"), ("carry", 1, 2), ["carry", 1], ("wait",), ("wait", [0]),
                  ("wait", (2,)), ("wait", (True,)), ("wait", (0, 0, 0)), ("wait", 0), ("at", 3), ("at", -1), ("at", True),
                  ("stand", 2), ("stand", -1), ("stand", False), ("stand",), (0, 1), (True, 1), (True,), (True, False, True),
                  [True, False], ("good", "good"), ["good"], "good", ("bad",), ("off", 0), None, 0, True]

@@ -84,6 +84,15 @@ class PutInTest(unittest.TestCase):
         self.assertEqual(put_in(claim, "x", ("plus", "t1", "t3")), wanted)
         self.assertEqual(put_in(("some", "y", ("same", "t1", "y")), "t1", "y"), ("some", "t2", ("same", "y", "t2")))
 
+    def test_names_that_bind_and_stand_nowhere_else_are_not_made_again(self):
+        for word in ("some", "all"):
+            idle = (word, "t1", ("top", "z"))
+            claim = ("and", (word, "y", ("same", "x", "y")), idle)
+            self.assertEqual(put_in(claim, "x", "y"), ("and", (word, "t2", ("same", "y", "t2")), idle))
+            self.assertEqual(renamed(claim, [("x", "y")]), ("and", (word, "t2", ("same", "y", "t2")), idle))
+            self.assertEqual(put_in((word, "t1", told("x", "y")), "x", 1)[2][1], "t2")
+            self.assertEqual(plain_bound(claim), ("and", (word, "t1", ("same", "x", "t1")), (word, "t2", ("top", "z"))))
+
     def test_told_with_another_name(self):
         self.assertEqual(put_in(told("y", "x"), "x", "z"), told("y", "z"))
         self.assertEqual(put_in(told("x", "y"), "x", "x"), told("x", "y"))
@@ -141,7 +150,7 @@ class RenamedTest(unittest.TestCase):
     def test_wrong_pairs(self):
         claim = ("same", ("plus", "x", "y"), "z")
         for pairs in ([("x", "y")], [("w", "x")], [("x", "a"), ("y", "a")], [("x", "a"), ("x", "b")], [("x", "all")],
-                      [("x", 1)], [("x",)], [("x", "a", "b")], [["x", "a"]], (("x", "a"),), {"x": "a"}, [("x", "y"), ("y", "z")]):
+                      [("x", 1)], [(1, "x")], [("all", "x")], [("x",)], [("x", "a", "b")], [["x", "a"]], (("x", "a"),), {"x": "a"}, [("x", "y"), ("y", "z")]):
             error = raised_by(renamed, claim, pairs)
             self.assertIs(error.__class__, InvalidNames, pairs)
             self.assertIs(error.value, pairs)

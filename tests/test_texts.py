@@ -100,6 +100,10 @@ class TextsTest(unittest.TestCase):
         self.refused(expression_of_text, "!" * 30 + "x")
         self.assertEqual(claim_of_text("top " + "!" * 28 + "x"), ("top", nested(lambda inner: ("turned", inner), "x", 28)))
         self.refused(claim_of_text, "top " + "!" * 29 + "x")
+        for before, behind in (("bit 0 ", ""), ("", " = x"), ("x = ", ""), ("", " < x"), ("x < ", ""), ("x under ", "")):
+            text = before + "!" * 28 + "x" + behind
+            self.assertEqual(text_of_claim(claim_of_text(text)), text)
+            self.refused(claim_of_text, before + "!" * 29 + "x" + behind)
         for before, behind in (("not [", "]"), ("[", "] then [or]"), ("[or] iff [", "]"), ("some x [", "]"), ("and [", "]")):
             self.assertEqual(text_of_claim(claim_of_text(before * 29 + "or" + behind * 29)), before * 29 + "or" + behind * 29)
             self.refused(claim_of_text, before * 30 + "or" + behind * 30)
