@@ -31,8 +31,8 @@ def behind_sign(text, at, sign):
 
 
 def number_of(text, figures):
-    """Return the number with these figures, which stand in the text."""
-    if figures == "" or len(figures) > MOST_FIGURES_READ:
+    """Return the number with these figures, which stand in the text; whatever else they are is refused."""
+    if figures == "" or len(figures) > MOST_FIGURES_READ or signs_from(figures, 0, FIGURES) != figures:
         raise InvalidText(text)
     return int(figures)
 

@@ -1,10 +1,11 @@
 """Promise 7: texts, there and back."""
 
+import itertools
 import unittest
 
 from howeverwide.errors import InvalidText
 from howeverwide.texts import claim_of_text, expression_of_text, text_of_claim, text_of_expression
-from tests.support import Maker, have_new_lists, nested
+from tests.support import Maker, have_new_lists, nested, raised_by
 
 EXPRESSIONS = {
     "x12": "x12",
@@ -94,6 +95,35 @@ class TextsTest(unittest.TestCase):
                     except InvalidText:
                         continue
                     self.assertEqual(text_of_claim(claim), other)
+
+    def test_what_has_another_sign_is_another_text_or_none(self):
+        for text in CLAIMS:
+            for place in range(len(text)):
+                for sign in ",/:0189 -[](!xz_\n":
+                    other = text[:place] + sign + text[place + 1:]
+                    error = raised_by(claim_of_text, other)
+                    if error is None:
+                        self.assertEqual(text_of_claim(claim_of_text(other)), other)
+                    else:
+                        self.assertIs(error.__class__, InvalidText, other)
+                        self.assertIs(error.value, other)
+
+    def test_whatever_stands_for_the_figures_of_a_told_table(self):
+        """All short texts of these signs behind "told", and within another claim: each is refused, or just the text of a claim."""
+        read = []
+        for many in range(8):
+            for signs in itertools.product(",/:01", repeat=many):
+                told = "told " + "".join(signs)
+                for text in (told, told + " x", f"not [{told}]"):
+                    error = raised_by(claim_of_text, text)
+                    if error is None:
+                        self.assertEqual(text_of_claim(claim_of_text(text)), text)
+                        read.append(text)
+                    else:
+                        self.assertIs(error.__class__, InvalidText, text)
+                        self.assertIs(error.value, text)
+        self.assertEqual(read, ["told 0:0:0", "not [told 0:0:0]", "told 0:0:1", "not [told 0:0:1]", "told 1:0,0:0 x",
+                                "told 1:0,0:1 x"])
 
     def test_thirty_knots_within_one_another(self):
         self.assertEqual(expression_of_text("!" * 29 + "x"), nested(lambda inner: ("turned", inner), "x", 29))
