@@ -3,7 +3,7 @@
 from howeverwide.basics import MOST_NAMES, is_count, is_count_to
 from howeverwide.errors import InvalidName, InvalidNumber
 from howeverwide.tables import check_table, check_two_tables
-from howeverwide.walks import explored, least_table, merged
+from howeverwide.walks import explored, least_table, mask_of, merged, stands_of
 
 MOST_STANDS = 2000
 WAYS = ("and", "or", "unlike", "then")
@@ -26,12 +26,17 @@ def joined(way, one, other):
     if way not in WAYS:
         raise InvalidName(way)
     check_two_tables(one, other)
+    pairs, steps = explored_pairs(one, other)
+    return merged(one[0], steps, [join_ends(way, one[2][first], other[2][last]) for first, last in pairs])
+
+
+def explored_pairs(one, other):
+    """Return the list of the reached pairs of stands of two tables, and the list of their steps."""
 
     def behind(pair):
         return list(zip(one[1][pair[0]], other[1][pair[1]]))
 
-    pairs, steps = explored((0, 0), behind, MOST_STANDS)
-    return merged(one[0], steps, [join_ends(way, one[2][first], other[2][last]) for first, last in pairs])
+    return explored((0, 0), behind, MOST_STANDS)
 
 
 def join_ends(way, one, other):
@@ -68,38 +73,43 @@ def check_place(table, place):
 def without_name(table, place):
     """Return the least table that takes a row if for some bits of the name with a place the table does.
 
-    A lot of stands is told by the number that has the bit 1 at the number of each of its
-    stands: so all stands behind a lot are put together quickly.
+    A lot of stands is told by a number: so all stands behind a lot are put together quickly.
     """
     many, steps, ends = table
     letters = [with_bit(letter, place) for letter in range(1 << (many - 1))]
-    both = [[(1 << step[letter]) | (1 << step[letter + (1 << place)]) for letter in letters] for step in steps]
+    both = masks_of_both(steps, letters, 1 << place)
 
     def behind(lot):
-        found = [0] * len(letters)
-        for stand in stands_of(lot):
-            found = [known | more for known, more in zip(found, both[stand])]
-        return found
+        return lots_of_letters(lot, both)
 
     lots, lot_steps = explored(1, behind, MOST_STANDS)
-    end_lot = sum([1 << stand for stand, end in enumerate(ends) if end])
+    end_lot = end_mask(ends)
     return merged(many - 1, lot_steps, [(lot & end_lot) > 0 for lot in lots])
+
+
+def masks_of_both(steps, letters, bit):
+    """Return for each stand, and each of some letters, what tells the stands behind it with and without a bit."""
+    return [[(1 << step[letter]) | (1 << step[letter + bit]) for letter in letters] for step in steps]
+
+
+def lots_of_letters(lot, masks):
+    """Return for each letter what tells the lot behind a lot; masks has it for each stand and letter."""
+    stands = stands_of(lot)
+    found = masks[stands[0]]
+    for stand in stands[1:]:
+        found = [known | more for known, more in zip(found, masks[stand])]
+    return found
+
+
+def end_mask(ends):
+    """Return what tells the lot of all ends."""
+    return mask_of([stand for stand, end in enumerate(ends) if end])
 
 
 def with_bit(letter, place):
     """Return the letter with one name more, whose bit is 0, at a place."""
     low = letter & ((1 << place) - 1)
     return low + 2 * (letter - low)
-
-
-def stands_of(lot):
-    """Return the ascending list of the stands of a lot that is told by a number."""
-    stands = []
-    while lot > 0:
-        lowest = lot & -lot
-        stands.append(lowest.bit_length() - 1)
-        lot -= lowest
-    return stands
 
 
 def placed(table, places, many):

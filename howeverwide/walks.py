@@ -94,26 +94,38 @@ def split_off(lot, part, lots, numbers, waits):
 
 def merged(many, steps, ends):
     """Return the least table of one all stands of which are reached, and numbered as they are first."""
+    return merged_lots(many, steps, ends)[0]
+
+
+def merged_lots(many, steps, ends):
+    """Return the least table of such a table, and for each of its stands the list of those that it stands for."""
     lots = lot_numbers(steps, ends)
     numbers = {}
-    firsts = []
+    members = []
     for stand, lot in enumerate(lots):
         if lot not in numbers:
-            numbers[lot] = len(firsts)
-            firsts.append(stand)
-    merged_steps = [[numbers[lots[behind]] for behind in steps[first]] for first in firsts]
-    return (many, merged_steps, [ends[first] for first in firsts])
+            numbers[lot] = len(members)
+            members.append([])
+        members[numbers[lot]].append(stand)
+    merged_steps = [[numbers[lots[behind]] for behind in steps[stands[0]]] for stands in members]
+    return (many, merged_steps, [ends[stands[0]] for stands in members]), members
 
 
 def least_table(table):
     """Return the least table of a table."""
+    return least_lots(table)[0]
+
+
+def least_lots(table):
+    """Return the least table of a table, and for each of its stands the ascending list of those that it stands for."""
     many, steps, ends = table
 
     def behind(stand):
         return steps[stand]
 
     stands, renumbered = explored(0, behind, len(steps))
-    return merged(many, renumbered, [ends[stand] for stand in stands])
+    least, members = merged_lots(many, renumbered, [ends[stand] for stand in stands])
+    return least, [sorted([stands[number] for number in numbers]) for numbers in members]
 
 
 def first_rows(table):
@@ -129,3 +141,61 @@ def first_rows(table):
                 rows.append((behind, row + [letter]))
         at += 1
     return rows
+
+
+def row_leading_to(steps, target):
+    """Return the first row to a stand, all stands being reached and numbered in the order of their first rows."""
+    ahead = {}
+    for stand, step in enumerate(steps):
+        for letter, behind in enumerate(step):
+            if behind not in ahead:
+                ahead[behind] = (stand, letter)
+    row = []
+    while target > 0:
+        target, letter = ahead[target]
+        row.append(letter)
+    return row[::-1]
+
+
+def mask_of(stands):
+    """Return the number that tells a lot of stands: its bit is 1 at the number of each of them."""
+    mask = 0
+    for stand in stands:
+        mask |= 1 << stand
+    return mask
+
+
+def stands_of(mask):
+    """Return the ascending list of the stands of the lot that a number tells."""
+    return [stand for stand, figure in enumerate(f"{mask:b}"[::-1]) if figure == "1"]
+
+
+def masks_behind(steps):
+    """Return for each stand the number that tells the lot of all stands to which its letters lead."""
+    return [mask_of(step) for step in steps]
+
+
+def lot_behind(lot, behind):
+    """Return what tells the lot of all stands behind those of a lot; behind has it for each stand."""
+    found = 0
+    for stand in stands_of(lot):
+        found |= behind[stand]
+    return found
+
+
+def lots_in_turn(steps, most):
+    """Return the list of what tells the lots behind rows of 0, 1, .. letters, and the number of that which comes back.
+
+    More lots than most are refused.
+    """
+    behind = masks_behind(steps)
+    lots = [1]
+    numbers = {1: 0}
+    while True:
+        lot = lot_behind(lots[-1], behind)
+        if lot in numbers:
+            return lots, numbers[lot]
+        if len(lots) == most:
+            raise TooMany(most + 1)
+        numbers[lot] = len(lots)
+        lots.append(lot)

@@ -230,6 +230,13 @@ def copied_told(claim):
     return ("told", copied_table(claim[1]), list(claim[2]))
 
 
+def copied_claim(claim):
+    """Return an equal claim that has no list in common with the one that is handed."""
+    if claim[0] == "told":
+        return copied_told(claim)
+    return with_claims(claim, [copied_claim(part) for part in claims_in(claim)])
+
+
 def names_standing(knot):
     """Return the names that stand anywhere in a claim or an expression, in any order, perhaps more than once."""
     if isinstance(knot, str):

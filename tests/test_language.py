@@ -168,7 +168,7 @@ class LanguageTest(unittest.TestCase):
                     self.assertIn(node.func.attr, METHODS, where)
                     self.assertEqual(node.keywords, [], where)
                 if isinstance(node, ast.Call) and isinstance(node.func, ast.Name) and node.func.id in ("any", "all"):
-                    self.assertIsInstance(node.args[0], ast.ListComp, where)
+                    self.assertIsInstance(node.args[0], (ast.ListComp, ast.Name, ast.Subscript), where)
                 if isinstance(node, ast.Call) and isinstance(node.func, ast.Name) and node.func.id in ("sorted", "len"):
                     continue
                 for inner in ast.iter_child_nodes(node):
