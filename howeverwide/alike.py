@@ -109,4 +109,4 @@ def with_other(claim, road, other):
     if len(road) == 0:
         return other
     place = road[0]
-    return (*claim[:place], with_other(claim[place], road[1:], other), *claim[place + 1:])
+    return claim[:place] + (with_other(claim[place], road[1:], other),) + claim[place + 1:]

@@ -144,8 +144,8 @@ def counts_from(table, width):
 
 def rows_by_letter(table, ups, downs):
     """Return for each letter how many rows that a table takes have it at the place between these counts."""
-    letters = list(zip(*table[1]))
-    return [sum([up * downs[behind] for up, behind in zip(ups, stands)]) for stands in letters]
+    steps = table[1]
+    return [sum([up * downs[behind] for up, behind in zip(ups, stands)]) for stands in zip(*steps)]
 
 
 def rows_with_bit(rows, number):

@@ -129,7 +129,8 @@ def rows_behind(columns, letters):
     def behind(key):
         if len(key) == 0:
             return [()] * letters
-        return list(zip(*[steps[stand] for steps, stand in zip(columns, key)]))
+        rows = [steps[stand] for steps, stand in zip(columns, key)]
+        return list(zip(*rows))
 
     return behind
 

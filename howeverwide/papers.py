@@ -83,7 +83,8 @@ def paper_together(word, papers):
     names = sorted(set([name for paper in papers for name in paper[1]]))
     if len(names) > MOST_NAMES:
         raise InvalidPaper(papers)
-    return made_paper((word, *[paper[0] for paper in papers]), names, [copied_paper(paper) for paper in papers])
+    pieces = [paper[0] for paper in papers]
+    return made_paper((word, *pieces), names, [copied_paper(paper) for paper in papers])
 
 
 def paper_some(paper, name):

@@ -92,7 +92,8 @@ def copied_piece(piece):
     if piece[0] == "some":
         return ("some", piece[1], copied_piece(piece[2]))
     if piece[0] in LINKS:
-        return (piece[0], *[copied_piece(part) for part in piece[1:]])
+        parts = [copied_piece(part) for part in piece[1:]]
+        return (piece[0], *parts)
     if piece[0] == "sum":
         return ("sum", list(piece[1]), piece[2])
     if piece[0] == "told":
