@@ -4,7 +4,8 @@ import inspect
 import random
 import unittest
 
-from howeverwide import atoms, errors, joins, meaning, puts, tables, texts, words
+from howeverwide import alike, atoms, building, errors, fillings, joins, judge, meaning, papers, pieces, puts, reach, tables
+from howeverwide import texts, widths, words
 from tests.support import POOL, have_new_lists, kept, nested, raised_by
 
 EVEN = (1, [[0, 1], [1, 0]], [True, False])
@@ -14,6 +15,8 @@ CLAIM = ("and", ("then", TOLD, TOLD), ("some", "x", ("all", "y", TOLD)), ("iff",
 SUM = ("sum", [(1, "x"), (-2, "y")], 3)
 PLAIN = ("and", ("then", TOLD, TOLD), ("iff", TOLD, ("below", "x", "y")))
 FILLING = [("x", 1), ("y", 2)]
+TOP = (("top", "x"), ["x"], (1, [[0, 1], [0, 1]], [False, True]), [("nought",), ("one",)], [])
+ODD = ([], [False, True])
 ANY = (None, None)
 
 WIDTH = ("width", "InvalidWidth")
@@ -22,6 +25,12 @@ EXPRESSION = ("expression", "InvalidExpression")
 A_CLAIM = ("claim", "InvalidClaim")
 AN_ATOM = ("atom", "InvalidClaim")
 A_SUM = ("sum", "InvalidClaim")
+A_PIECE = ("piece", "InvalidClaim")
+A_PAPER = ("paper", "InvalidPaper")
+PAPERS = ("papers", "InvalidPaper")
+WIDTHS = ("widths", "InvalidWidths")
+COUNTED = ("count", "InvalidWidth")
+NUMBERED = ("count", "InvalidNumber")
 TABLE = ("table", "InvalidTable")
 FILLED = ("filling x y", "InvalidFilling")
 
@@ -81,6 +90,63 @@ CALLS = [
     (atoms.most_stands, [("atom", SUM, AN_ATOM)]),
     (atoms.carries_met, [("atom", SUM, A_SUM)]),
     (atoms.carry_bounds, [("atom", SUM, A_SUM), ("width", 3, WIDE)]),
+    (pieces.gathered, [("expression", ("plus", ("both", "x", 1), "x"), EXPRESSION)]),
+    (pieces.is_piece, [("value", SUM, ANY)]),
+    (pieces.piece_holds, [("width", 3, WIDTH), ("piece", ("iff", TOLD, SUM), A_PIECE), ("filling", FILLING, FILLED)]),
+    (pieces.free_in_piece, [("piece", ("iff", TOLD, SUM), A_PIECE)]),
+    (pieces.piece_of, [("claim", CLAIM, A_CLAIM)]),
+    (pieces.most_names, [("piece", ("iff", TOLD, SUM), A_PIECE)]),
+    (building.table_of, [("claim", CLAIM, A_CLAIM)]),
+    (building.table_on, [("claim", PLAIN, A_CLAIM), ("names", ["x", "y"], ("names x y", "InvalidNames"))]),
+    (building.as_told, [("claim", CLAIM, A_CLAIM)]),
+    *[(function, [("one", CLAIM, A_CLAIM), ("other", PLAIN, A_CLAIM)]) for function in
+      (alike.are_alike, alike.parting, alike.enough, alike.follows, alike.against, alike.alike_from)],
+    (alike.is_always, [("claim", CLAIM, A_CLAIM)]),
+    (alike.is_never, [("claim", CLAIM, A_CLAIM)]),
+    (alike.part_at, [("claim", CLAIM, A_CLAIM), ("road", [1, 2], ("road", "InvalidNumber"))]),
+    (alike.exchanged, [("claim", CLAIM, A_CLAIM), ("road", [1, 2], ("road", "InvalidNumber")), ("other", TOLD, A_CLAIM)]),
+    (widths.is_widths, [("value", ODD, ANY)]),
+    (widths.has_width, [("widths", ODD, WIDTHS), ("width", 9, COUNTED)]),
+    (widths.plain_widths, [("widths", ([True], [True, True]), WIDTHS)]),
+    (widths.joined_widths, [("way", "or", ("way of widths", "InvalidName")), ("one", ODD, WIDTHS), ("other", ([], [True]), WIDTHS)]),
+    (widths.turned_widths, [("widths", ODD, WIDTHS)]),
+    (widths.parting_width, [("one", ODD, WIDTHS), ("other", ([], [True]), WIDTHS)]),
+    (widths.later_widths, [("widths", ODD, WIDTHS), ("many", 3, ("later", "InvalidNumber"))]),
+    (widths.least_width, [("widths", ODD, WIDTHS)]),
+    (widths.next_width, [("widths", ODD, WIDTHS), ("width", 9, COUNTED)]),
+    (widths.greatest_width, [("widths", ([True], [False]), WIDTHS)]),
+    (widths.how_many_below, [("widths", ODD, WIDTHS), ("width", 9, COUNTED)]),
+    (widths.width_numbered, [("widths", ODD, WIDTHS), ("number", 9, NUMBERED)]),
+    (widths.text_of_widths, [("widths", ODD, WIDTHS)]),
+    (widths.widths_of_text, [("text", "01(1)", ("widths text", "InvalidText"))]),
+    (reach.lots_reached, [("table", LESS, TABLE)]),
+    (reach.taken_widths, [("table", LESS, TABLE)]),
+    (reach.full_widths, [("table", LESS, TABLE)]),
+    (reach.met_widths, [("claim", CLAIM, A_CLAIM)]),
+    (reach.sure_widths, [("claim", CLAIM, A_CLAIM)]),
+    (reach.met_from, [("claim", CLAIM, A_CLAIM)]),
+    (reach.sure_from, [("claim", CLAIM, A_CLAIM)]),
+    (reach.widths_paper, [("claim", CLAIM, A_CLAIM)]),
+    (reach.is_widths_paper, [("claim", ("top", "x"), A_CLAIM), ("value", (TOP, ([[0]], [[0, 1]])), ANY)]),
+    *[(function, [("table", LESS, TABLE), ("names", ["x", "y"], ("two names", "InvalidNames")), ("width", 3, WIDTH)]) for function in
+      (fillings.first_met, fillings.last_met, fillings.all_met, fillings.ones_met)],
+    *[(function, [("table", LESS, TABLE), ("names", ["x", "y"], ("two names", "InvalidNames")), ("width", 3, WIDTH),
+                  ("filling", FILLING, FILLED)]) for function in (fillings.is_met, fillings.next_met, fillings.met_ahead)],
+    (fillings.met_numbered, [("table", LESS, TABLE), ("names", ["x", "y"], ("two names", "InvalidNames")), ("width", 3, WIDTH),
+                             ("number", 9, NUMBERED)]),
+    (judge.is_paper, [("value", TOP, ANY)]),
+    (judge.is_no, [("claim", ("top", "x"), A_CLAIM), ("value", TOP, ANY)]),
+    (judge.is_no_at, [("width", 1, WIDTH), ("claim", ("top", "x"), A_CLAIM), ("value", (TOP, [[0], [0, 1]]), ANY)]),
+    (papers.paper_of, [("claim", CLAIM, A_CLAIM)]),
+    (papers.no_paper, [("claim", ("and", TOLD, ("not", TOLD)), A_CLAIM)]),
+    (papers.no_paper_at, [("width", 3, WIDTH), ("claim", ("and", TOLD, ("not", TOLD)), A_CLAIM)]),
+    (papers.paper_not, [("paper", TOP, A_PAPER)]),
+    (papers.paper_and, [("papers", [TOP, TOP], PAPERS)]),
+    (papers.paper_or, [("papers", [TOP, TOP], PAPERS)]),
+    (papers.paper_some, [("paper", TOP, A_PAPER), ("name", "x", ("name x", "InvalidName"))]),
+    (papers.paper_least, [("paper", TOP, A_PAPER)]),
+    (papers.papers_in, [("paper", TOP, A_PAPER)]),
+    (papers.stands_in, [("paper", TOP, A_PAPER)]),
 ]
 
 JUDGES = {
@@ -89,6 +155,9 @@ JUDGES = {
     words.is_claim: "claim",
     tables.is_table: "table",
     atoms.is_atom: "atom",
+    pieces.is_piece: "piece",
+    widths.is_widths: "widths",
+    judge.is_paper: "paper",
 }
 
 
@@ -97,7 +166,7 @@ class ArgumentsTest(unittest.TestCase):
     def test_every_function_of_these_modules_is_called_here(self):
         tested = {function.__name__ for function, _ in CALLS}
         self.assertEqual(len(tested), len(CALLS))
-        self.assertEqual(len(CALLS), 11 + 4 + 2 + 4 + 13 + 5 + 11)
+        self.assertEqual(len(CALLS), 11 + 4 + 2 + 4 + 13 + 5 + 11 + 6 + 3 + 10 + 14 + 9 + 8 + 3 + 10)
         for function, parameters in CALLS:
             self.assertEqual(list(inspect.signature(function).parameters), [name for name, _, _ in parameters])
 
