@@ -209,7 +209,7 @@ class WidthsPapersTest(unittest.TestCase):
         told = widths_paper(("top", "x"))
         for value, kinds in POOL.entries:
             self.assertIs(is_widths_paper(("top", "x"), value), False)
-            self.assertIs(is_widths_paper(("top", "x"), (value, told[1])), False)
+            self.assertIs(is_widths_paper(("top", "x"), (value, told[1])), value == told[0][4][0])
             self.assertIs(is_widths_paper(("top", "x"), (told[0], value)), False)
             self.assertIs(is_widths_paper(("top", "x"), (told[0], (value, [[0, 1]]))), False)
             self.assertIs(is_widths_paper(("top", "x"), (told[0], ([value], [[0, 1]]))), False if value != [0] else True)
