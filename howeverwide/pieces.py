@@ -5,8 +5,8 @@ from howeverwide.basics import check_width, copied_table, is_whole
 from howeverwide.errors import InvalidClaim
 from howeverwide.labels import holds_of_words
 from howeverwide.puts import fresh_name, marked
-from howeverwide.words import check_claim, check_expression, check_filling, claims_in, copied_told, first_word
-from howeverwide.words import is_name, names_standing, swept_claim, with_claims
+from howeverwide.words import check_claim, check_expression, check_filling, claims_in, first_word, is_name
+from howeverwide.words import names_standing, swept_claim, with_claims
 
 # The expressions that are parts of sums, and are not taken apart further.
 WHOLE_PARTS = ("both", "either", "unlike", "down")
@@ -41,8 +41,7 @@ def gather(expression, k, parts, factors):
     if word == "times":
         return gather(expression[2], k * expression[1], parts, factors)
     if word == "up":
-        # What is taken 0 times stays so, however far it is shifted.
-        return gather(expression[2], k << expression[1] if k != 0 else 0, parts, factors)
+        return gather(expression[2], k << expression[1], parts, factors)
     first = gather(expression[1], k, parts, factors)
     return first + gather(expression[2], k if word == "plus" else -k, parts, factors)
 
@@ -165,10 +164,8 @@ def piece_of_claim(claim):
 
 
 def taken_apart(claim, taken):
-    """Return the piece of a claim without "then" and "all"; taken has the names that are not to be made."""
+    """Return the piece of a claim that has been swept; taken has the names that are not to be made."""
     word = claim[0]
-    if word == "told":
-        return copied_told(claim)
     if word == "same":
         return sum_piece(("minus", claim[1], claim[2]), taken)
     if word in ("below", "under", "top"):
@@ -184,7 +181,7 @@ def with_names(expressions, taken, begin):
     def finish(names):
         return (*begin, *names)
 
-    return named(list(expressions), [], taken, finish)
+    return named(expressions, [], taken, finish)
 
 
 def named(left, names, taken, finish):
@@ -216,7 +213,7 @@ def sum_piece(expression, taken):
     terms, c = gathered_terms(expression)
 
     def finish(names):
-        ordered = sorted(list(zip(names, [k for k, _ in terms])))
+        ordered = sorted(zip(names, [k for k, _ in terms]))
         return ("sum", [(k, name) for name, k in ordered], c)
 
     return named([part for _, part in terms], [], taken, finish)

@@ -201,6 +201,14 @@ class JudgeTest(unittest.TestCase):
         for other in bent(two):
             if is_plain_form(other):
                 self.both(other)
+        # Around a paper stand those on just its names, with tables of just as many.
+        plain = (("sum", [], 0), ["x"], (1, [[0, 0]], [True]), [("carry", 0)], [])
+        none = (("sum", [], 0), [], (0, [[0]], [True]), [("carry", 0)], [])
+        self.assertEqual([self.both(plain), self.both(none)], [True, True])
+        for part, names, many, right in ((plain, ["x"], 1, True), (none, [], 0, True), (none, ["x"], 1, False), (plain, ["x", "y"], 2, False),
+                                         (plain, ["x"], 0, False), (plain, ["x"], 2, False), (none, [], 1, False), (plain, [], 0, False)):
+            made = (("sum", [], 0), names, (many, [[0] * 2 ** many], [True]), [("lot", 0)], [part])
+            self.assertIs(self.both(made), right, made)
         mixed = (("top", "x"), ["x"], (1, [[0, 0]], [True]), [("lot", 0, 1)], [TOP])
         self.assertIs(self.both(mixed), False)
 
@@ -274,6 +282,9 @@ class NoTest(unittest.TestCase):
         self.assertIs(is_no(("not", ("or", ("not", NEVER))), whole), False)
         self.assertIs(is_no(("top", "x"), paper_of(("top", "x"))), False)
         self.assertIs(is_no(("and",), paper_of(("and",))), False)
+        for wrong in (changed(whole, 3, [("lot", 1)]), changed(whole, 3, [("stand", 0)]), changed(whole, 4, []), changed(whole, 1, ["x", "x"])):
+            self.assertEqual([is_paper(wrong), is_no(NEVER, wrong), is_no_at(1, NEVER, (wrong, [[0], [0]]))], [False] * 3)
+        self.assertIs(is_no_at(1, NEVER, (whole, [[0], [0]])), True)
         # No stand at all may be an end, reached or not.
         odd = with_stand(whole[4][0], ("less",), [1, 1], True)
         self.assertEqual([is_paper(odd), is_no(NEVER, odd)], [True, False])

@@ -169,7 +169,7 @@ class WidthsTest(unittest.TestCase):
         self.assertEqual(widths_of_text(long), ([False, True] * 100, [True, True, False]))
 
     def test_what_is_no_text(self):
-        for text in ("", "()", "1", "1(", "1)", "(1", "1()", "(1))", "((1)", "(1)(1)", "(1)1", " (1)", "(1) ", "(1)\n", "2(1)", "(2)", "(1 0)", ")1(", "(-1)",
+        for text in ("", "()", "1", "1(", "1)", "(1", "(11", "(10 ", "0(011", "1()", "(1))", "((1)", "(1)(1)", "(1)1", " (1)", "(1) ", "(1)\n", "2(1)", "(2)", "(1 0)", ")1(", "(-1)",
                      "x(1)", "1(0", "10", None, 1, b"", ["(1)"], ("(1)",), True, ODD):
             error = raised_by(widths_of_text, text)
             self.assertIs(error.__class__, InvalidText, text)
