@@ -60,6 +60,31 @@ class TablesOfClaimsTest(unittest.TestCase):
                     row = plain_letters(width, [word for _, word in filling])
                     self.assertIs(takes(table, row), plainly_holds(width, claim, dict(filling)), (claim, filling))
 
+    def test_greater_widths(self):
+        """Words of up to 64 bits, with shifts and bits up to the places that are allowed."""
+        looked = 0
+        for seed in range(150):
+            maker = Maker(seed, ("x", "y"))
+            random = maker.random
+            inner = maker.expression(2)
+            claim = random.choice([("same", ("down", random.randint(4, 8), "x"), inner), ("bit", random.randint(4, 8), inner),
+                                   ("under", ("up", random.randint(4, 8), "x"), inner), ("below", inner, ("plus", "y", 1000)),
+                                   ("or", maker.claim(2, 0), ("same", inner, -1000))])
+            try:
+                table = table_of(claim)
+            except TooMany:
+                continue
+            names = free_names(claim)
+            for width in (5, 8, 9, 10, 33, 64):
+                for _ in range(6):
+                    ends = [0, 2 ** width - 1, 2 ** (width - 1), random.randrange(2 ** width), random.randrange(2 ** min(width, 5))]
+                    words = [random.choice(ends) for _ in names]
+                    filling = dict(zip(names, words))
+                    row = plain_letters(width, [filling[name] for name in names])
+                    self.assertIs(takes(table, row), plainly_holds(width, claim, filling), (claim, filling))
+                    looked += 1
+        self.assertGreater(looked, 2000)
+
     def test_on_further_names(self):
         for seed in range(60):
             claim = Maker(seed, ("b", "e")).claim(2, 1)

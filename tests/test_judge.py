@@ -170,7 +170,11 @@ class JudgeTest(unittest.TestCase):
         self.assertIs(self.both(with_stand(above, ("lot", 1), [1, 2], False)), False)
         for label in (("lot",), ("lot", 1, 1), ("lot", 2), ("lot", 1, 0), ("stand", 1), ("lot", True)):
             self.assertIs(self.both(with_stand(above, label, [1, 2], True)), False, label)
+        # Lots are not empty, though no end is in an empty one, and nothing comes of it.
+        self.assertIs(self.both(with_stand(above, ("lot",), [2, 2], False)), False)
         around = paper_of(("some", "x", ("below", "x", "y")))
+        self.assertIs(self.both(with_stand(around, ("lot",), [2, 2], False)), False)
+        self.assertIs(self.both(with_stand(around, ("lot",), [0, 1], True)), False)
         self.assertEqual(around[3], [("lot", 0), ("lot", 1)])
         self.assertIs(self.both(with_stand(around, ("lot", 1), [1, 2], True)), True)
         self.assertIs(self.both(with_stand(around, ("lot", 0, 1), [1, 1], True)), False)

@@ -167,6 +167,9 @@ class LanguageTest(unittest.TestCase):
                 if isinstance(node, ast.Call) and isinstance(node.func, ast.Attribute):
                     self.assertIn(node.func.attr, METHODS, where)
                     self.assertEqual(node.keywords, [], where)
+                if isinstance(node, ast.Call):
+                    starred = [one.value for one in node.args if isinstance(one, ast.Starred)]
+                    self.assertTrue(all(isinstance(one, (ast.Name, ast.Attribute)) for one in starred), where)
                 if isinstance(node, ast.Call) and isinstance(node.func, ast.Name) and node.func.id in ("any", "all"):
                     self.assertIsInstance(node.args[0], (ast.ListComp, ast.Name, ast.Subscript), where)
                 if isinstance(node, ast.Call) and isinstance(node.func, ast.Name) and node.func.id in ("sorted", "len"):
