@@ -44,6 +44,15 @@ def stands_before(steps):
     return befores
 
 
+def stands_ahead(steps):
+    """Return for each stand the list of those from which a letter leads to it, each as often as some does."""
+    ahead = [[] for _ in steps]
+    for stand, step in enumerate(steps):
+        for behind in step:
+            ahead[behind].append(stand)
+    return ahead
+
+
 def lot_numbers(steps, ends):
     """Return for each stand the number of its lot of alike stands.
 

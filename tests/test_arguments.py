@@ -4,8 +4,8 @@ import inspect
 import random
 import unittest
 
-from howeverwide import alike, atoms, building, errors, fillings, joins, judge, meaning, papers, pieces, puts, reach, tables
-from howeverwide import texts, widths, words
+from howeverwide import alike, atoms, between, building, cores, counts, errors, fillings, joins, judge, meaning, papers, pieces
+from howeverwide import puts, reach, tables, texts, wider, widths, words
 from tests.support import POOL, have_new_lists, kept, nested, raised_by
 
 EVEN = (1, [[0, 1], [1, 0]], [True, False])
@@ -33,6 +33,10 @@ COUNTED = ("count", "InvalidWidth")
 NUMBERED = ("count", "InvalidNumber")
 TABLE = ("table", "InvalidTable")
 FILLED = ("filling x y", "InvalidFilling")
+CLAIMS = [CLAIM, TOLD, ("top", "x"), ("not", TOLD)]
+SOME_CLAIMS = ("claims", "InvalidClaims")
+ROW = ("row of claims", "InvalidClaims")
+LOT = ("lot", "InvalidNumber")
 
 # Each function with, for each parameter in order, its name, a right value, and of which kind
 # it must be by which error.
@@ -134,6 +138,31 @@ CALLS = [
                   ("filling", FILLING, FILLED)]) for function in (fillings.is_met, fillings.next_met, fillings.met_ahead)],
     (fillings.met_numbered, [("table", LESS, TABLE), ("names", ["x", "y"], ("two names", "InvalidNames")), ("width", 3, WIDTH),
                              ("number", 9, NUMBERED)]),
+    (counts.how_many_met, [("table", LESS, TABLE), ("width", 30, ("to 2000", "InvalidWidth"))]),
+    (counts.how_many_by, [("table", LESS, TABLE), ("width", 10 ** 29, COUNTED), ("by", 10, ("by", "InvalidNumber"))]),
+    (counts.count_rule, [("table", LESS, TABLE)]),
+    (counts.counts_part, [("one", LESS, TABLE), ("other", EVEN, TABLE)]),
+    (counts.is_count_rule, [("table", EVEN, TABLE), ("value", ([1, 1], [2, 0]), ANY)]),
+    (counts.counts_by, [("table", LESS, TABLE), ("by", 10, ("by to 50", "InvalidNumber"))]),
+    (wider.widened, [("width", 3, WIDTH), ("filling", FILLING, ("filling", "InvalidFilling")), ("way", "top", ("way of wider", "InvalidText"))]),
+    (wider.kept_wider, [("claim", CLAIM, A_CLAIM), ("way", "noughts", ("way of wider", "InvalidText"))]),
+    (cores.lot_widths, [("claims", CLAIMS, SOME_CLAIMS), ("lot", [0, 2], LOT)]),
+    (cores.can_meet, [("claims", CLAIMS, SOME_CLAIMS), ("lot", [0, 2], LOT), ("width", 9, COUNTED)]),
+    *[(function, [("claims", CLAIMS, SOME_CLAIMS), ("width", 9, COUNTED)]) for function in
+      (cores.least_clashes, cores.greatest_met, cores.mends)],
+    (cores.clash_widths, [("claims", CLAIMS, SOME_CLAIMS), ("lot", [1, 3], LOT)]),
+    (cores.crossing, [("many", 4, ("to 8", "InvalidNumber")), ("lots", [[0, 1], [1, 2], [0, 1]], ("lots", "InvalidClaims"))]),
+    (cores.following_widths, [("claims", CLAIMS, SOME_CLAIMS), ("claim", TOLD, A_CLAIM)]),
+    *[(function, [("claims", CLAIMS, SOME_CLAIMS)]) for function in
+      (cores.never_met, cores.ever_met, cores.idle_claims, cores.least_bases)],
+    *[(function, [("one", TOLD, A_CLAIM), ("other", ("not", TOLD), A_CLAIM)]) for function in
+      (between.shared_names, between.clash, between.clashing_widths, between.meeting, between.strongest, between.weakest,
+       between.only_between)],
+    (between.clash_at, [("width", 9, COUNTED), ("one", TOLD, A_CLAIM), ("other", CLAIM, A_CLAIM)]),
+    (between.is_between, [("one", TOLD, A_CLAIM), ("other", ("not", TOLD), A_CLAIM), ("value", LESS, ANY)]),
+    (between.how_many_open, [("width", 9, WIDE), ("one", TOLD, A_CLAIM), ("other", ("not", TOLD), A_CLAIM)]),
+    (between.chain, [("claims", [TOLD, ("not", TOLD), TOLD], ROW)]),
+    (between.is_chain, [("claims", [("top", "x"), ("not", ("top", "x"))], ROW), ("value", [(["x"], TOP[2])], ANY)]),
     (judge.is_paper, [("value", TOP, ANY)]),
     (judge.is_no, [("claim", ("top", "x"), A_CLAIM), ("value", TOP, ANY)]),
     (judge.is_no_at, [("width", 1, WIDTH), ("claim", ("top", "x"), A_CLAIM), ("value", (TOP, [[0], [0, 1]]), ANY)]),
@@ -166,7 +195,7 @@ class ArgumentsTest(unittest.TestCase):
     def test_every_function_of_these_modules_is_called_here(self):
         tested = {function.__name__ for function, _ in CALLS}
         self.assertEqual(len(tested), len(CALLS))
-        self.assertEqual(len(CALLS), 11 + 4 + 2 + 4 + 13 + 5 + 11 + 6 + 3 + 10 + 14 + 9 + 8 + 3 + 10)
+        self.assertEqual(len(CALLS), 11 + 4 + 2 + 4 + 13 + 5 + 11 + 6 + 3 + 10 + 14 + 9 + 8 + 6 + 2 + 12 + 12 + 3 + 10)
         for function, parameters in CALLS:
             self.assertEqual(list(inspect.signature(function).parameters), [name for name, _, _ in parameters])
 
