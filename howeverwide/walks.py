@@ -152,6 +152,27 @@ def first_rows(table):
     return rows
 
 
+def first_row_where(first, behind, is_wanted):
+    """Return the first row, shorter ones first, to a key that is wanted, None if none is reached.
+
+    behind(key) returns the list of the keys behind a key, one for each letter. No more keys
+    are looked at than stand ahead of the wanted one.
+    """
+    keys = [(first, [])]
+    met = {first: True}
+    at = 0
+    while at < len(keys):
+        key, row = keys[at]
+        if is_wanted(key):
+            return row
+        for letter, found in enumerate(behind(key)):
+            if found not in met:
+                met[found] = True
+                keys.append((found, row + [letter]))
+        at += 1
+    return None
+
+
 def row_leading_to(steps, target):
     """Return the first row to a stand, all stands being reached and numbered in the order of their first rows."""
     ahead = {}

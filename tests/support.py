@@ -5,6 +5,7 @@ import itertools
 import random
 
 from howeverwide import errors
+from howeverwide.solver import Solver
 
 
 class Pool:
@@ -14,7 +15,8 @@ class Pool:
         self.entries = []
 
     def add(self, value, *kinds):
-        self.entries.append((value, set(kinds) | ({"piece"} if "atom" in kinds else set())))
+        more = {"piece"} if "atom" in kinds else {"string"} if isinstance(value, str) else set()
+        self.entries.append((value, set(kinds) | more))
 
     def wrong(self, kind):
         return [value for value, kinds in self.entries if kind not in kinds]
@@ -53,7 +55,7 @@ def make_pool():
     pool.add(1001, "by", "to 2000", *count)
     pool.add(10 ** 30 - 1, *count)
     pool.add(1 - 10 ** 30, *number)
-    pool.add("")
+    pool.add("", "sheet")
     pool.add("x", "name", "expression", "expression text", "name x")
     pool.add("t1", "name", "expression", "expression text")
     pool.add("all")
@@ -93,8 +95,8 @@ def make_pool():
     pool.add([0] * 7, "row", "bits")
     pool.add([0] * 65, "row")
     pool.add([None])
-    pool.add(["x"], "names")
-    pool.add(["x", "y"], "names", "names x y", "two names")
+    pool.add(["x"], "names", "wanted")
+    pool.add(["x", "y"], "names", "names x y", "two names", "wanted")
     pool.add(("x", "y"))
     pool.add(["y", "x"])
     pool.add(["x", "x"])
@@ -211,12 +213,28 @@ def make_pool():
     pool.add([less, top], "papers")
     pool.add([less, top[:4]])
     pool.add((less, top))
+    pool.add((1, 1, 0, [[0, 0, 0]], [[0, 1, 0]]), "machine")
+    pool.add((0, 2, 3, [[1, 0], [1, 1]], [[3, 0], [2, 1]]), "machine")
+    pool.add((1, 1, 0, [[0, 0]], [[0, 1]]))
+    pool.add((1, 1, 0, [[0, 0, 0]], [[0, 2, 0]]))
+    pool.add((1, 1, True, [[0, 0, 0]], [[0, 1, 0]]))
+    pool.add([1, 1, 0, [[0, 0, 0]], [[0, 1, 0]]])
     pool.add(([], [True]), "widths")
     pool.add(([True, False], [False, True]), "widths")
     pool.add(([True], []))
     pool.add([[], [True]])
     pool.add(((), (True,)))
     pool.add(([], [1]))
+    solver = Solver()
+    solver.do(("claim", ("told", table, ["x"])))
+    pool.add(solver, "solver")
+    pool.add([solver])
+    pool.add(("claim", ("top", "x")))
+    pool.add(("push",))
+    pool.add("# a\ntop x\n", "sheet")
+    pool.add("top x\nbit 0")
+    pool.add([(2, "x"), (-1, "y")], "terms")
+    pool.add([(2, "x"), (-1, "w")])
     pool.add(errors.ClaimError())
     pool.add(errors.InvalidName("x"))
     pool.add(errors.NothingToUndo())

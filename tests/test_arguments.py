@@ -4,8 +4,8 @@ import inspect
 import random
 import unittest
 
-from howeverwide import alike, atoms, between, building, cores, counts, errors, fillings, joins, judge, meaning, papers, pieces
-from howeverwide import puts, reach, tables, texts, wider, widths, words
+from howeverwide import alike, always, atoms, between, building, cores, counts, errors, fillings, joins, judge, machines, meaning
+from howeverwide import papers, pieces, puts, reach, serial, sheets, solver, tables, texts, wider, widths, words
 from tests.support import POOL, have_new_lists, kept, nested, raised_by
 
 EVEN = (1, [[0, 1], [1, 0]], [True, False])
@@ -37,6 +37,16 @@ CLAIMS = [CLAIM, TOLD, ("top", "x"), ("not", TOLD)]
 SOME_CLAIMS = ("claims", "InvalidClaims")
 ROW = ("row of claims", "InvalidClaims")
 LOT = ("lot", "InvalidNumber")
+FREE = ("name x", "InvalidName")
+BIT = ("bit", "InvalidNumber")
+MACHINE = ("machine", "InvalidMachine")
+KEEP = (1, 1, 0, [[0, 0, 0]], [[0, 1, 0]])
+WANTED = ("wanted", "InvalidNames")
+AHEAD = ("count", "InvalidNumber")
+# Of this claim the word x is that with all bits of y above the lowest one, one place lower, and y is even.
+SHIFTED = ("and", ("same", "x", ("down", 1, "y")), ("told", (2, [[0, 0, 0, 0]], [True]), ["y", "x"]))
+# Whether x is y or y turned is told by the highest bit of y.
+TURNED = ("or", ("and", ("top", "y"), ("same", "x", "y")), ("and", ("not", ("top", "y")), ("same", "x", ("turned", "y")), ("told", (0, [[0]], [True]), [])))
 
 # Each function with, for each parameter in order, its name, a right value, and of which kind
 # it must be by which error.
@@ -163,6 +173,32 @@ CALLS = [
     (between.how_many_open, [("width", 9, WIDE), ("one", TOLD, A_CLAIM), ("other", ("not", TOLD), A_CLAIM)]),
     (between.chain, [("claims", [TOLD, ("not", TOLD), TOLD], ROW)]),
     (between.is_chain, [("claims", [("top", "x"), ("not", ("top", "x"))], ROW), ("value", [(["x"], TOP[2])], ANY)]),
+    *[(function, [("claim", PLAIN, A_CLAIM), ("name", "x", FREE)]) for function in
+      (always.two_words, always.no_word, always.mattering, always.without)],
+    (always.bit_always, [("claim", PLAIN, A_CLAIM), ("name", "x", FREE), ("place", 3, ("to 8", "InvalidNumber")), ("bit", 1, BIT)]),
+    (always.top_always, [("claim", PLAIN, A_CLAIM), ("name", "x", FREE), ("bit", 0, BIT)]),
+    (always.always_equal, [("claim", PLAIN, A_CLAIM)]),
+    (always.always_turned, [("claim", PLAIN, A_CLAIM)]),
+    (always.kept_sums, [("claim", ("and", ("same", "x", "y"), ("told", EVEN, ["x"])), A_CLAIM), ("most", 2, ("one or two", "InvalidNumber"))]),
+    (always.sum_against, [("claim", PLAIN, A_CLAIM), ("terms", [(1, "x"), (2, "y")], ("terms", "InvalidClaim")), ("c", 3, ("whole", "InvalidNumber"))]),
+    (serial.is_machine, [("value", KEEP, ANY)]),
+    (serial.told_words, [("machine", KEEP, MACHINE), ("width", 3, WIDTH), ("words", [4], ("words", "InvalidWord"))]),
+    (serial.machine_table, [("machine", KEEP, MACHINE)]),
+    (serial.tell_alike, [("one", KEEP, MACHINE), ("other", (1, 1, 1, [[0, 0, 0]], [[0, 1, 0]]), MACHINE)]),
+    (serial.chained, [("one", KEEP, MACHINE), ("other", (1, 1, 1, [[0, 0, 0]], [[0, 1, 0]]), MACHINE)]),
+    *[(function, [("claim", SHIFTED, A_CLAIM), ("wanted", ["x"], WANTED)]) for function in
+      (machines.untold, machines.bits_ahead, machines.machine_for)],
+    (machines.barring_ring, [("claim", TURNED, A_CLAIM), ("wanted", ["x"], WANTED)]),
+    (machines.not_enough, [("claim", SHIFTED, A_CLAIM), ("wanted", ["x"], WANTED), ("ahead", 0, AHEAD)]),
+    (machines.is_not_enough, [("claim", SHIFTED, A_CLAIM), ("wanted", ["x"], WANTED), ("ahead", 0, AHEAD),
+                              ("value", (0, (2, [("x", 0), ("y", 0)]), (2, [("x", 1), ("y", 2)])), ANY)]),
+    (machines.is_barring_ring, [("claim", TURNED, A_CLAIM), ("wanted", ["x"], WANTED),
+                                ("value", ([0], [0], ([0], [0], [(1, 1)]), ([1], [1], [(0, 1)])), ANY)]),
+    (machines.undone, [("machine", KEEP, MACHINE), ("claim", SHIFTED, A_CLAIM), ("wanted", ["x"], WANTED)]),
+    (sheets.sheet_of, [("claims", CLAIMS, SOME_CLAIMS)]),
+    (sheets.claims_of_sheet, [("text", "told 1:0,0:1 x\n# a\ntold 1:0,0:1 x\n", ("sheet", "InvalidText"))]),
+    (sheets.good_part, [("text", "told 1:0,0:1 x\n# a\ntold 1:0,0:1 x\nto", ("string", "InvalidText"))]),
+    (solver.is_deed, [("solver", solver.Solver(), ("solver", "InvalidDeed")), ("value", ("claim", TOLD), ANY)]),
     (judge.is_paper, [("value", TOP, ANY)]),
     (judge.is_no, [("claim", ("top", "x"), A_CLAIM), ("value", TOP, ANY)]),
     (judge.is_no_at, [("width", 1, WIDTH), ("claim", ("top", "x"), A_CLAIM), ("value", (TOP, [[0], [0, 1]]), ANY)]),
@@ -187,6 +223,7 @@ JUDGES = {
     pieces.is_piece: "piece",
     widths.is_widths: "widths",
     judge.is_paper: "paper",
+    serial.is_machine: "machine",
 }
 
 
@@ -195,7 +232,7 @@ class ArgumentsTest(unittest.TestCase):
     def test_every_function_of_these_modules_is_called_here(self):
         tested = {function.__name__ for function, _ in CALLS}
         self.assertEqual(len(tested), len(CALLS))
-        self.assertEqual(len(CALLS), 11 + 4 + 2 + 4 + 13 + 5 + 11 + 6 + 3 + 10 + 14 + 9 + 8 + 6 + 2 + 12 + 12 + 3 + 10)
+        self.assertEqual(len(CALLS), 11 + 4 + 2 + 4 + 13 + 5 + 11 + 6 + 3 + 10 + 14 + 9 + 8 + 6 + 2 + 12 + 12 + 3 + 10 + 10 + 5 + 8 + 3 + 1)
         for function, parameters in CALLS:
             self.assertEqual(list(inspect.signature(function).parameters), [name for name, _, _ in parameters])
 

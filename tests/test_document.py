@@ -35,7 +35,7 @@ class DocumentTest(unittest.TestCase):
                 # True is equal to 1, but not written so.
                 self.assertEqual(repr(told), repr(wanted), row)
                 answered += 1
-        self.assertEqual([len(blocks()), answered], [11, 53])
+        self.assertEqual([len(blocks()), answered], [14, 70])
 
     def test_answers_stand_behind_what_is_told(self):
         for block in blocks():

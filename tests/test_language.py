@@ -19,8 +19,10 @@ compile copyright credits delattr dir eval exec exit gc getattr globals hasattr 
 methodcaller os quit setattr super type vars sys""".split()
 BARRED_WORDS = """type typing typing_extensions enum Enum IntEnum StrEnum Flag IntFlag Generic Protocol ABC ABCMeta
 namedtuple NamedTuple TypedDict TYPE_CHECKING abstractmethod dataclass overload contextmanager""".split()
+OWN_METHODS = ["layers", "claims", "names", "together"]
+DOUBLE = ("__init__", "__eq__")
 STATEMENTS = (ast.Assign, ast.AugAssign, ast.If, ast.While, ast.For, ast.Return, ast.Break, ast.Continue, ast.Raise,
-              ast.Expr, ast.FunctionDef)
+              ast.Expr, ast.FunctionDef, ast.Try)
 
 
 def sources():
@@ -126,8 +128,8 @@ class LanguageTest(unittest.TestCase):
     def test_names(self):
         for name, tree in trees():
             for bound in bound_in(tree):
-                self.assertFalse(hasattr(builtins, bound) and bound != "__init__", (name, bound))
-                self.assertRegex(bound, r"^(__init__|_|[A-Za-z][A-Za-z0-9_]*)$")
+                self.assertFalse(hasattr(builtins, bound) and bound not in DOUBLE, (name, bound))
+                self.assertRegex(bound, r"^(__init__|__eq__|_|[A-Za-z][A-Za-z0-9_]*)$")
                 self.assertNotIn(bound, BARRED_NAMES)
             for node in ast.walk(tree):
                 if isinstance(node, ast.Name) and hasattr(builtins, node.id):
@@ -144,7 +146,7 @@ class LanguageTest(unittest.TestCase):
 
     def test_statements_and_expressions(self):
         barred = (ast.Div, ast.Pow, ast.Lambda, ast.SetComp, ast.Set, ast.GeneratorExp, ast.Yield, ast.YieldFrom,
-                  ast.NamedExpr, ast.Global, ast.Nonlocal, ast.AsyncFunctionDef, ast.Await, ast.Try, ast.With, ast.Match,
+                  ast.NamedExpr, ast.Global, ast.Nonlocal, ast.AsyncFunctionDef, ast.Await, ast.With, ast.Match,
                   ast.AnnAssign, ast.Delete, ast.Assert)
         for name, tree in trees():
             for node in ast.walk(tree):
@@ -165,7 +167,9 @@ class LanguageTest(unittest.TestCase):
             for node in ast.walk(tree):
                 where = (name, getattr(node, "lineno", 0))
                 if isinstance(node, ast.Call) and isinstance(node.func, ast.Attribute):
-                    self.assertIn(node.func.attr, METHODS, where)
+                    # Methods of own objects are called by self, which is never a list or a dict.
+                    is_own = isinstance(node.func.value, ast.Name) and node.func.value.id == "self"
+                    self.assertIn(node.func.attr, OWN_METHODS if is_own else METHODS, where)
                     self.assertEqual(node.keywords, [], where)
                 if isinstance(node, ast.Call):
                     starred = [one.value for one in node.args if isinstance(one, ast.Starred)]
@@ -198,14 +202,42 @@ class LanguageTest(unittest.TestCase):
         for name, tree in trees():
             classes = [node for node in tree.body if isinstance(node, ast.ClassDef)]
             for node in classes:
-                self.assertEqual([node.decorator_list, len(node.bases)], [[], 1])
+                self.assertEqual([node.decorator_list, len(node.bases)], [[], 0 if node.name == "Solver" else 1])
                 for inner in node.body[1:]:
                     self.assertIsInstance(inner, ast.FunctionDef)
+                    if inner.name not in DOUBLE:
+                        self.assertIsNotNone(ast.get_docstring(inner), inner.name)
             called = {inner.func.id for node in ast.walk(tree) if isinstance(node, ast.Raise)
                       for inner in [node.exc] if isinstance(inner, ast.Call)}
             read = [node.id for node in ast.walk(tree) if isinstance(node, ast.Name) and node.id[0].isupper()
                     and not node.id.isupper() and node.id not in BUILTINS]
             self.assertLessEqual(set(read) - {node.name for node in classes}, called, name)
+
+    def test_attributes_and_methods(self):
+        for name, tree in trees():
+            for node in [node for node in tree.body if isinstance(node, ast.ClassDef)]:
+                methods = [inner.name for inner in node.body[1:]]
+                stored = {one.attr for one in ast.walk(node) if isinstance(one, ast.Attribute) and isinstance(one.ctx, ast.Store)}
+                self.assertEqual([one for one in stored if one in methods or one in METHODS], [], (name, node.name))
+                self.assertEqual(len(set(methods)), len(methods))
+            for node in ast.walk(tree):
+                if isinstance(node, ast.Attribute) and isinstance(node.ctx, ast.Store):
+                    self.assertIsInstance(node.value, ast.Name, (name, node.lineno))
+
+    def test_only_own_errors_are_caught(self):
+        for name, tree in trees():
+            for node in ast.walk(tree):
+                if isinstance(node, ast.Try):
+                    self.assertEqual([node.orelse, node.finalbody], [[], []])
+                    for handler in node.handlers:
+                        self.assertRegex(handler.type.id, "^Invalid", (name, node.lineno))
+
+    def test_what_is_iterated_is_not_kept(self):
+        kept = ("range", "zip", "enumerate", "reversed")
+        for name, tree in trees():
+            for node in ast.walk(tree):
+                if isinstance(node, ast.Assign) and isinstance(node.value, ast.Call) and isinstance(node.value.func, ast.Name):
+                    self.assertNotIn(node.value.func.id, kept, (name, node.lineno))
 
 
 class CheckoutTest(unittest.TestCase):
