@@ -144,11 +144,11 @@ def pairs_with(claim, unlike):
     names, table = named_claim(claim)
     letters = sorted(set([letter for step in living_steps(table) for letter, _ in step]))
     pairs = []
-    for last in range(len(names)):
-        for first in range(last):
+    for first in range(len(names)):
+        for last in range(first + 1, len(names)):
             if all([((letter >> first & 1) != (letter >> last & 1)) == unlike for letter in letters]):
                 pairs.append((names[first], names[last]))
-    return sorted(pairs)
+    return pairs
 
 
 def rows_of_times(many, most):

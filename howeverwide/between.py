@@ -81,7 +81,7 @@ def chain(claims):
     met = tables[0]
     for names, table in zip(carried_names(claims), tables[1:]):
         link = kept_names(met, names)
-        links.append((list(names), link[1]))
+        links.append((names, link[1]))
         met = met_both(link, table)
     return links if takes_nothing(met) else None
 

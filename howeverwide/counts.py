@@ -83,7 +83,7 @@ def is_count_rule(table, value):
     first, rule = value
     # What the rule leaves, from its length on, obeys itself a rule as long as there are stands.
     numbers = numbers_met(table, len(rule) + len(table[1]))
-    if len(first) != len(rule) or first != numbers[:len(rule)]:
+    if first != numbers[:len(rule)]:
         return False
     return all([told_by(rule, numbers, width) == numbers[width] for width in range(len(rule), len(numbers))])
 

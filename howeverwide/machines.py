@@ -10,7 +10,7 @@ from howeverwide.named import kept_names, without_met
 from howeverwide.serial import check_machine, machine_table
 from howeverwide.tables import first_taken
 from howeverwide.walks import explored, first_row_where, first_rows
-from howeverwide.words import are_names, check_claim, free_names, is_filling_of
+from howeverwide.words import are_names, free_names, is_filling_of
 
 MOST_WANTED = 2
 MOST_GIVEN = 4
@@ -139,7 +139,6 @@ def undone(machine, claim, wanted):
 
 def check_wanted(claim, wanted):
     """Refuse what is no claim, and what is no list of one or two of its free names that leaves at most four others."""
-    check_claim(claim)
     free = free_names(claim)
     if not are_names(wanted) or not is_count_to(len(wanted), MOST_WANTED) or len(wanted) == 0:
         raise InvalidNames(wanted)
@@ -273,14 +272,15 @@ def key_behind(moves, ends, ahead, key, sign):
         return (stand, waiting, ended), 0
     if len(waiting) == 0:
         return key, 0
-    going = [move for move in moves[stand][waiting[0]] if can_go_on(moves, ends, move[1], waiting[1:], ended > 0)]
-    letter, behind = going[0]
+    # As the bits ahead are enough, the words that end here have the same letter as all that go on.
+    ending = [move for move in moves[stand][waiting[0]] if leads_to_end(moves, ends, move[1], waiting[1:])]
+    letter, behind = ending[0]
     return (behind, waiting[1:], ended), letter
 
 
-def can_go_on(moves, ends, stand, letters, must_end):
-    """Return whether given letters lead on from a stand, to an end if they must."""
+def leads_to_end(moves, ends, stand, letters):
+    """Return whether given letters lead, with some wanted ones, from a stand to an end."""
     lot = {stand: True}
     for letter in letters:
         lot = {behind: True for known in lot for _, behind in moves[known][letter]}
-    return any([ends[known] for known in lot]) if must_end else len(lot) > 0
+    return any([ends[known] for known in lot])

@@ -8,8 +8,7 @@ from howeverwide.building import claim_table
 from howeverwide.fillings import filling_numbered
 from howeverwide.joins import end_mask, letter_at, lots_of_letters, placed_table, turned_table
 from howeverwide.reach import widths_where
-from howeverwide.tables import first_taken
-from howeverwide.walks import explored, mask_of, merged, stands_ahead
+from howeverwide.walks import explored, first_rows, mask_of, merged, stands_ahead
 from howeverwide.words import names_free
 
 
@@ -86,8 +85,8 @@ def kept_names(named, names):
         return named
     places = [own.index(name) for name in names]
     lots = [[] for _ in range(1 << len(names))]
-    for letter in range(1 << len(own)):
-        lots[letter_at(places, letter)].append(letter)
+    for whole in range(1 << len(own)):
+        lots[letter_at(places, whole)].append(whole)
     masks = [[mask_of([step[letter] for letter in lot]) for lot in lots] for step in steps]
 
     def behind(lot):
@@ -120,7 +119,7 @@ def first_filling(named):
     None if there is none.
     """
     names, table = named
-    row = first_taken(table)
-    if row is None:
+    lengths = [len(row) for stand, row in first_rows(table) if table[2][stand]]
+    if len(lengths) == 0:
         return None
-    return (len(row), filling_numbered(table, names, len(row), 0))
+    return (lengths[0], filling_numbered(table, names, lengths[0], 0))

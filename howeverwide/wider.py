@@ -40,7 +40,7 @@ def check_some_filling(width, filling):
 
 def check_way(way):
     """Refuse what is no way of making fillings wider."""
-    if not isinstance(way, str) or way not in WAYS:
+    if way not in WAYS:
         raise InvalidText(way)
 
 

@@ -206,6 +206,8 @@ class EqualTest(unittest.TestCase):
         self.assertEqual([always_equal(once), always_turned(once)], [[], [("x", "y")]])
         four = ("and", ("same", "a", "d"), ("same", "b", "b"), ("same", "c", ("turned", "a")))
         self.assertEqual([always_equal(four), always_turned(four)], [[("a", "d")], [("a", "c"), ("c", "d")]])
+        crossed = ("and", ("same", "a", "d"), ("same", "b", "c"))
+        self.assertEqual(always_equal(crossed), [("a", "d"), ("b", "c")])
 
 
 class SumsTest(unittest.TestCase):

@@ -154,6 +154,7 @@ class BoundsTest(unittest.TestCase):
         self.assertIs(is_between(FOUR, ODD, low), True)
         self.assertIs(is_between(FOUR, ODD, list(low)), False)
         self.assertIs(is_between(FOUR, ODD, (2, [[stand for stand in step for _ in range(2)] for step in low[1]], low[2])), False)
+        self.assertIs(is_between(FOUR, ODD, (2, [step + step for step in low[1]], low[2])), False)
         # A table between two claims need not be least, nor need all of its stands be reached.
         many, steps, ends = low
         wide = (many, [[stand + len(steps) for stand in step] for step in steps] + steps + [[0, 0]], ends * 2 + [True])

@@ -148,6 +148,10 @@ class UntoldTest(unittest.TestCase):
         two = ("and", ("same", 4, 0), ("not", ("same", 2, 0)), ("not", ("same", "x", 0)), ("not", ("same", "x", 3)))
         self.assertEqual(untold(("or", two, ("same", "y", "x")), ["y"]), (2, [("x", 2)], 2))
         self.assertEqual(untold(("and", ("not", two), ("same", "y", "x")), ["y"]), (2, [("x", 2)], 0))
+        # Two choices that come together ahead of the end.
+        three = ("and", ("same", 8, 0), ("not", ("same", 4, 0)))
+        merged = ("or", ("and", ("not", three), ("same", "y", 0)), ("and", three, ("or", ("same", "y", 1), ("same", "y", 2))))
+        self.assertEqual(untold(merged, ["y"]), (3, [], 2))
         late = ("and", ("same", "y", "x"), ("not", ring(60, 0, 59)))
         self.assertEqual(untold(late, ["y"]), (59, [("x", 0)], 0))
         self.assertEqual(untold(("or", ("same", "y", "x"), ring(60, 0, 59)), ["y"]), (59, [("x", 0)], 2))
@@ -277,6 +281,28 @@ class RingTest(unittest.TestCase):
                     pairs = list(zip(head + turn * many, first + again * many)) + tail
                     self.assertIs(self.met(claim, wanted, pairs), True)
         self.assertGreater(rings, 15)
+
+    def test_longer_rings(self):
+        """Rings to which a longer way leads, and that are longer, beside pairs that come to an end."""
+        for size in (2, 3, 5):
+            for k in (0, 1, 3):
+                for late in (0, 2):
+                    told = ring(size, 0, size - 1)
+                    turned = ("or", ("and", told, ("same", "y", "x")), ("and", ("not", told), ("same", "y", ("unlike", "x", ("up", late, 1)))))
+                    claim, wanted = ("and", ("same", "b", ("down", k, "x")), turned), ["b", "y"]
+                    found = barring_ring(claim, wanted)
+                    self.assertIsNone(bits_ahead(claim, wanted))
+                    self.assertIs(is_barring_ring(claim, wanted, found), True)
+                    head, turn, one, other = found
+                    self.assertEqual(len(turn) % size, 0)
+                    self.assertGreater(len(head), late)
+                    for many in range(3):
+                        for first, again, tail in (one, other):
+                            self.assertIs(self.met(claim, wanted, list(zip(head + turn * many, first + again * many)) + tail), True)
+                    bent = (head, turn, (one[0], [letter ^ 2 for letter in one[1]], one[2]), other)
+                    self.assertIs(is_barring_ring(claim, wanted, bent), False)
+                    for ahead in (0, 2, 7):
+                        self.assertIs(shows(claim, wanted, ahead, *not_enough(claim, wanted, ahead)), True)
 
     def test_bent_rings(self):
         self.assertIs(is_barring_ring(LESSER, ["y"], self.GOOD), True)
@@ -419,7 +445,7 @@ class ErrorsTest(unittest.TestCase):
                 self.assertIs(self.refused(InvalidClaim, function, wrong, None, *more), wrong)
             self.assertIs(self.refused(InvalidClaim, undone, HALF, wrong, None), wrong)
         many = ("same", "a", ("plus", ("plus", ("plus", "b", "c"), ("plus", "d", "e")), "f"))
-        for claim, wrong in [(ADDED, wrong) for wrong in (None, [], ["w"], ["y", "x"], ["x", "x"], ("y",), ["x", "y", "z"], "y", ["y", None], {}, [1])] + \
+        for claim, wrong in [(ADDED, wrong) for wrong in (None, [], ["w"], ["w", "y"], ["y", "x"], ["x", "x"], ("y",), ["x", "y", "z"], "y", ["y", None], {}, [1])] + \
                             [(many, ["a"]), (("some", "y", ADDED), ["y"]), (("and", BIG, ADDED), ["w"])]:
             for function, more in self.CALLS:
                 self.assertIs(self.refused(InvalidNames, function, claim, wrong, *[None for _ in more]), wrong)

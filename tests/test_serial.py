@@ -114,6 +114,8 @@ class IsMachineTest(unittest.TestCase):
             for told in (1, 2):
                 for ahead in (0, 8, 9, 10 ** 29):
                     self.assertIs(is_machine((many, told, ahead, [[0] * (2 ** many + 1)], [[2 ** told - 1] * (2 ** many + 1)])), True)
+        for many, told in ((5, 1), (4, 3)):
+            self.assertIs(is_machine((many, told, 0, [[0] * (2 ** many + 1)], [[0] * (2 ** many + 1)])), False)
         for value, kinds in POOL.entries:
             self.assertIs(is_machine(value), "machine" in kinds)
 

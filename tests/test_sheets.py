@@ -87,6 +87,7 @@ class SheetsTest(unittest.TestCase):
         self.assertEqual([good_part("and\n\nor\n"), good_part("and\n#"), good_part("and\nor")], [([("and",)], 4)] * 3)
         self.assertEqual(good_part("and\nor\nx\nor\n"), ([("and",), ("or",)], 7))
         self.assertEqual([good_part("and \n"), good_part(" and\n"), good_part("and\r\n"), good_part(" # a\n")], [([], 0)] * 4)
+        self.assertEqual([good_part("# a\r\n"), good_part("#" + chr(233) + "\n"), good_part("#" + chr(127) + "\n")], [([], 0)] * 3)
         self.assertEqual([good_part("top x#\n"), good_part("top x # a\n")], [([], 0)] * 2)
         self.assertEqual(claims_of_sheet("#" + ANY_SIGN + "\ntop x\n"), [("top", "x")])
         self.assertEqual(sheet_of([TOLD, TOLD]), "told 1:0,1/1,0:10 x\n" * 2)
