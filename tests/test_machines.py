@@ -430,6 +430,70 @@ class MachineTest(unittest.TestCase):
         self.assertEqual([plainly_told(machine, width, []) for width in range(5)], [[0], [1], [2], [4], [8]])
 
 
+class FromTheTopTest(unittest.TestCase):
+    """Claims that tell what is told by going through the letters from the highest ones down: rings are no rare thing here."""
+
+    def made_rule(self, seed):
+        """For each of some places and each given letter, the letter that is told, and the place behind."""
+        random = Maker(seed).random
+        given, told, places = random.randint(0, 2), random.randint(1, 2), random.randint(1, 4)
+        rule = [[(random.randrange(2 ** told), random.randrange(places)) for _ in range(2 ** given)] for _ in range(places)]
+        return given, told, rule
+
+    def claim_of(self, given, told, rule):
+        """Going up from the lowest letter, each stand is the lot of the places that go on down to what was told."""
+        lots, steps = [frozenset(range(len(rule)))], []
+        for lot in lots:
+            steps.append([])
+            for letter in range(2 ** (given + told)):
+                read, wanted = letter % 2 ** given, letter // 2 ** given
+                ahead = frozenset(place for place, row in enumerate(rule) if row[read][0] == wanted and row[read][1] in lot)
+                if ahead not in lots:
+                    lots.append(ahead)
+                steps[-1].append(lots.index(ahead))
+        names, wanted = ["a", "x"][:given], ["b", "y"][:told]
+        return ("told", (given + told, steps, [0 in lot for lot in lots]), names + wanted), wanted
+
+    def told_down(self, rule, row):
+        place, letters_told = 0, []
+        for letter in reversed(row):
+            told, place = rule[place][letter]
+            letters_told.insert(0, told)
+        return letters_told
+
+    def test_bits_ahead_rings_and_machines(self):
+        found = {}
+        for seed in range(120):
+            given, told, rule = self.made_rule(seed)
+            claim, wanted = self.claim_of(given, told, rule)
+            self.assertIsNone(untold(claim, wanted))
+            bits, ring_found, machine = bits_ahead(claim, wanted), barring_ring(claim, wanted), machine_for(claim, wanted)
+            found[bits] = found.get(bits, 0) + 1
+            rows = [(row, self.told_down(rule, row)) for width in range(7 if given < 2 else 5) for row in all_rows(given, width)]
+            for ahead in range(4):
+                self.assertIs(not_enough(claim, wanted, ahead) is None, bits is not None and ahead >= bits)
+                if not self.is_enough(rows, ahead):
+                    self.assertTrue(bits is None or ahead < bits)
+            if bits is None:
+                self.assertIs(is_barring_ring(claim, wanted, ring_found), True)
+                self.assertIsNone(machine)
+                continue
+            self.assertEqual([ring_found, machine[2], undone(machine, claim, wanted)], [None, bits, None])
+            for row, letters_told in rows:
+                words = [sum(letter // 2 ** number % 2 * 2 ** place for place, letter in enumerate(row)) for number in range(given)]
+                self.assertEqual(plain_letters(len(row), plainly_told(machine, len(row), words)), letters_told)
+        self.assertLessEqual({None, 0, 1, 2}, set(found))
+
+    def is_enough(self, rows, ahead):
+        seen = {}
+        for row, told in rows:
+            for place, letter in enumerate(told):
+                end = len(row) if len(row) <= place + ahead else None
+                if seen.setdefault((place, tuple(row[:place + ahead + 1]), end), letter) != letter:
+                    return False
+        return True
+
+
 class ErrorsTest(unittest.TestCase):
 
     CALLS = [(untold, []), (not_enough, [0]), (is_not_enough, [0, None]), (bits_ahead, []), (barring_ring, []), (is_barring_ring, [None]), (machine_for, [])]

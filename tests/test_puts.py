@@ -18,7 +18,7 @@ def told(*names):
 class PutInTest(unittest.TestCase):
 
     def test_against_holds_at_small_widths(self):
-        for seed in range(1500):
+        for seed in range(800):
             maker = Maker(seed, ("x", "y", "t1", "t2"))
             claim, name, expression = maker.claim(3), maker.random.choice(maker.names), maker.expression(1)
             before = kept(claim)
@@ -113,7 +113,7 @@ class PutInTest(unittest.TestCase):
 class RenamedTest(unittest.TestCase):
 
     def test_against_holds_at_small_widths(self):
-        for seed in range(1500):
+        for seed in range(800):
             maker = Maker(seed, ("x", "y", "t1", "t2"))
             claim = maker.claim(3)
             olds, news = maker.random.sample(maker.names, 2), maker.random.sample(maker.names + ["z"], 2)
