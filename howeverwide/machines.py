@@ -111,14 +111,15 @@ def machine_for(claim, wanted):
     if ahead is None:
         return None
     _, given, chosen, table = read
+    told_moves = [[[(letter_at(chosen, letter), later) for letter, later in row] for row in rows] for rows in moves]
     signs = list(range((1 << len(given)) + 1))
 
     def behind(key):
-        return [key_behind(moves, table[2], ahead, key, sign)[0] for sign in signs]
+        return [key_behind(told_moves, table[2], ahead, key, sign)[0] for sign in signs]
 
-    keys, steps = explored((0, (), 0), behind, None)
-    letters = [[key_behind(moves, table[2], ahead, key, sign)[1] for sign in signs] for key in keys]
-    return (len(given), len(chosen), ahead, steps, [letters_at(chosen, row) for row in letters])
+    keys, steps = explored(((((), 0),), 0), behind, None)
+    tells = [[key_behind(told_moves, table[2], ahead, key, sign)[1] for sign in signs] for key in keys]
+    return (len(given), len(chosen), ahead, steps, tells)
 
 
 def undone(machine, claim, wanted):
@@ -252,35 +253,33 @@ def is_round(read, head, turn, value):
     return table[2][stand_after(table, ahead + [whole_letter(read, *letters) for letters in tail])]
 
 
-def key_behind(moves, ends, ahead, key, sign):
-    """Return the key of the machine of a claim behind a key and a sign, and the whole letter that is told with it.
+def key_behind(told_moves, ends, ahead, key, sign):
+    """Return the key of the machine of a claim behind a key and a sign, and the wanted letter that is told with it.
 
-    A key is a tuple of the stand up to which all is told, of the given letters that wait to be
-    told, and of how many ends are read. All waits until as many signs are read as are read ahead.
+    A key is a tuple of the choices that go on so far, in order, and of how many ends are read. A
+    choice is a tuple of the wanted letters that wait to be told, and of the stand to which it
+    leads. All waits until as many signs are read as are read ahead.
     """
-    stand, waiting, ended = key
-    is_end = sign == len(moves[0])
-    if ended > 0 and not is_end:
+    choices, ended = key
+    if sign == len(told_moves[0]):
+        # Where the words end just one choice meets the claim; from then on its stand does not matter.
+        rows = [row for row, stand in choices if ended > 0 or ends[stand]]
+        choices, ended = ((rows[0], 0),), ended + 1
+    elif ended > 0:
         # No letter comes behind the end.
         return key, 0
-    is_full = len(waiting) + ended == ahead
-    if is_end:
-        ended += 1
     else:
-        waiting = waiting + (sign,)
-    if not is_full:
-        return (stand, waiting, ended), 0
+        choices = choices_behind(told_moves, choices, sign)
+    waiting = choices[0][0]
+    if len(waiting) + ended <= ahead:
+        return (choices, ended), 0
     if len(waiting) == 0:
         return key, 0
-    # As the bits ahead are enough, the words that end here have the same letter as all that go on.
-    ending = [move for move in moves[stand][waiting[0]] if leads_to_end(moves, ends, move[1], waiting[1:])]
-    letter, behind = ending[0]
-    return (behind, waiting[1:], ended), letter
+    # As the bits ahead are enough, the first letter that waits is the same in all choices.
+    return (tuple([(row[1:], stand) for row, stand in choices]), ended), waiting[0]
 
 
-def leads_to_end(moves, ends, stand, letters):
-    """Return whether given letters lead, with some wanted ones, from a stand to an end."""
-    lot = {stand: True}
-    for letter in letters:
-        lot = {behind: True for known in lot for _, behind in moves[known][letter]}
-    return any([ends[known] for known in lot])
+def choices_behind(told_moves, choices, letter):
+    """Return the choices that go on behind a given letter, in order."""
+    found = [(row + (wanted,), behind) for row, stand in choices for wanted, behind in told_moves[stand][letter]]
+    return tuple(sorted(found))
