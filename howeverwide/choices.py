@@ -41,7 +41,7 @@ def first_untold(read):
     moves, ends = moves_of(read), read[3][2]
 
     def behind(key):
-        return [key_behind(moves, key, letter) for letter in range(len(moves[0]))]
+        return [key_behind(moves, key, given) for given in range(len(moves[0]))]
 
     def is_untold(key):
         return taken_at(ends, key) != 1
