@@ -46,7 +46,7 @@ class AlikeTest(unittest.TestCase):
 
     def test_against_holding_at_small_widths(self):
         found = {True: 0, False: 0}
-        for one, other in made_pairs(120, 2):
+        for one, other in made_pairs(80, 2):
             before = kept((one, other))
             names = sorted(set(free_names(one)) | set(free_names(other)))
             parted = first_by_rows(names, 3, lambda width, words: plainly_holds(width, one, inner(one, words)) !=
@@ -119,7 +119,7 @@ class AlikeTest(unittest.TestCase):
         self.assertIsNone(alike_from(ring(3, 0), ring(6, 0)))
         gaps = ("told", (0, [[stand + 1] for stand in range(9)] + [[9]], [stand in (2, 6) for stand in range(10)]), [])
         self.assertEqual(alike_from(gaps, ("or",)), 7)
-        for one, other in made_pairs(150, 2):
+        for one, other in made_pairs(90, 2):
             names = sorted(set(free_names(one)) | set(free_names(other)))
             parts = []
             for width in range(4):
@@ -133,7 +133,7 @@ class AlikeTest(unittest.TestCase):
             self.assertEqual(alike_from(other, one), told)
 
     def test_always_and_never(self):
-        for claim, _ in made_pairs(150, 3):
+        for claim, _ in made_pairs(70, 3):
             names = free_names(claim)
             told = {plainly_holds(width, claim, dict(filling)) for width in range(3) for filling in fillings(names, width)}
             if is_always(claim):

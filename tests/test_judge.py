@@ -93,7 +93,7 @@ class JudgeTest(unittest.TestCase):
         return told
 
     def test_papers_of_claims_are_right(self):
-        for claim in made_claims(150, 3):
+        for claim in made_claims(80, 3):
             paper = paper_of(claim)
             before = kept(paper)
             self.assertIs(self.both(paper), True, claim)
@@ -109,7 +109,7 @@ class JudgeTest(unittest.TestCase):
 
     def test_bent_papers(self):
         found = {True: 0, False: 0}
-        for claim in list(made_claims(60, 2)) + [("below", "x", 1), ("bit", 2, "x"), ("under", "x", "y"), ("and",), TOLD]:
+        for claim in list(made_claims(40, 2)) + [("below", "x", 1), ("bit", 2, "x"), ("under", "x", "y"), ("and",), TOLD]:
             paper = paper_of(claim)
             for paper in (paper, paper[4][0]):
                 if stands_in(paper) > 80:
@@ -118,7 +118,7 @@ class JudgeTest(unittest.TestCase):
                     if is_plain_form(other) and number % 2 == 0:
                         found[self.both(other)] += 1
         self.assertGreater(found[True], 100)
-        self.assertGreater(found[False], 5000)
+        self.assertGreater(found[False], 3000)
 
     def test_each_kind_bent(self):
         carry = (("sum", [(1, "x"), (-2, "y")], 1), ["x", "y"], None, None, [])
@@ -295,13 +295,13 @@ class NoTest(unittest.TestCase):
 
     def test_made_claims(self):
         found = 0
-        for claim in made_claims(200, 3):
+        for claim in made_claims(120, 3):
             paper = paper_of(claim)
             never = not any(paper[2][2])
             self.assertIs(is_no(claim, paper), never)
             self.assertIs(is_no(("not", claim), paper), False)
             found += never
-        self.assertGreater(found, 20)
+        self.assertGreater(found, 10)
 
     def test_no_at_a_width(self):
         odd = ("some", "x", ("same", ("times", 2, "x"), 1))

@@ -35,7 +35,7 @@ def letters_on(names):
 class PapersOfClaimsTest(unittest.TestCase):
 
     def test_form(self):
-        for claim in made_claims(150, 3):
+        for claim in made_claims(80, 3):
             before = kept(claim)
             paper = paper_of(claim)
             self.assertEqual([claim, paper[0], paper[1], paper[2]], [before, piece_of(claim), free_names(claim), table_of(claim)])
@@ -81,7 +81,7 @@ class PapersOfClaimsTest(unittest.TestCase):
                                      [("stands", 0, 0), ("stands", 1, 0), ("stands", 0, 1), ("stands", 1, 1)]))
 
     def test_no_paper(self):
-        for claim in made_claims(150, 3):
+        for claim in made_claims(80, 3):
             paper, told = paper_of(claim), no_paper(claim)
             self.assertEqual(told, None if True in paper[2][2] else paper)
             if told is not None:
@@ -93,7 +93,7 @@ class PapersOfClaimsTest(unittest.TestCase):
 
     def test_no_paper_at(self):
         found = {True: 0, False: 0}
-        for claim in made_claims(120, 2):
+        for claim in made_claims(70, 2):
             names = free_names(claim)
             for width in range(3):
                 told = no_paper_at(width, claim)

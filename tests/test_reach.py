@@ -105,7 +105,7 @@ def full_by_hand(sizes):
 class WidthsOfClaimsTest(unittest.TestCase):
 
     def test_against_holding(self):
-        for claim in made_claims(200, 2):
+        for claim in made_claims(110, 2):
             names = free_names(claim)
             met, sure = met_widths(claim), sure_widths(claim)
             self.assertEqual([is_plain(met), is_plain(sure)], [True, True])
@@ -161,7 +161,7 @@ class WidthsOfClaimsTest(unittest.TestCase):
 class WidthsPapersTest(unittest.TestCase):
 
     def test_papers_of_claims(self):
-        for claim in made_claims(100, 2):
+        for claim in made_claims(60, 2):
             before = kept(claim)
             told = widths_paper(claim)
             paper = paper_of(claim)

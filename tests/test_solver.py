@@ -304,7 +304,7 @@ class AnswersTest(unittest.TestCase):
 
     def test_against_holding_at_all_fillings(self):
         unmet = 0
-        for claims in made_lists(range(700, 760), most=4):
+        for claims in made_lists(range(700, 735), most=4):
             solver = done()
             for number, claim in enumerate(claims):
                 solver.do(("push",) if number % 2 else ("read", "# a\n"))
